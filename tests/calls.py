@@ -1,0 +1,265 @@
+"""For each function: good arguments, and for each argument wrong ones with their error.
+
+A wrong argument is a value that the error has to tell, or a tuple `Told(value, told)` where the error
+tells something else (an item of the value).
+"""
+
+from wholesound import errors as e
+from wholesound import ever, guessers, healing, lifts, mixers, mixing, shares, sounds, weights
+from wholesound.guessers import Guesser, steps
+from wholesound.mixers import Mixer
+from wholesound.sounds import Sound
+
+from tests.odd import no_bits, no_lists, no_numbers, no_objects, no_samples, numbers_but
+
+
+class Told:
+    def __init__(self, value, told):
+        self.value = value
+        self.told = told
+
+
+class Call:
+    """A function, good arguments by name in order (made anew each time), and wrong ones by name."""
+
+    def __init__(self, function, good, **wrong):
+        self.function = function
+        self.good = good
+        self.wrong = wrong
+
+    def name(self):
+        return f"{self.function.__module__}.{self.function.__name__}"
+
+
+NUMBER = (e.InvalidNumber, no_numbers())
+COUNT = (e.InvalidNumber, numbers_but(0, None))
+GUESSER = (e.InvalidGuesser, no_objects(Guesser))
+WHOLE = (e.InvalidGuesser, no_objects(Guesser) + [Guesser([1], 1), Guesser([2, -1], 15), Guesser([], 3)])
+MIXER = (e.InvalidMixer, no_objects(Mixer))
+SOUND = (e.InvalidSound, no_objects(Sound))
+ROW = (e.InvalidRow, no_lists())
+FOLDS = (e.InvalidFolds, no_lists() + [[-1], [0, 1, -5]])
+WIDTH = (e.InvalidWidth, numbers_but(0, 120))
+
+
+def number(low, high):
+    return (e.InvalidNumber, numbers_but(low, high))
+
+
+def depth(most):
+    return (e.InvalidDepth, numbers_but(1, most))
+
+
+def samples(at):
+    return (e.InvalidRow, no_samples(at))
+
+
+def rule():
+    return (e.InvalidWeights, no_lists() + [[32769], [-32769], [0, 10 ** 29], [0] * 9])
+
+
+def firsts(at, many):
+    return (e.InvalidRow, no_samples(at) + [[0] * (many + 1), [0] * (many - 1), [0] * 30])
+
+
+def sound_calls():
+    sound = Sound(4, [[3, 3, 5], [0, -8, 7]])
+    steep = Sound(4, [[0] * 4093] * 2)
+    many_ways = no_objects(list) + [[], [[0]] * 5]
+    items = [Told([[0], way], way) for way in no_samples(4)] + [Told([way, [0]], way) for way in no_samples(4)]
+    ways = many_ways + []
+    unlike = [Sound(5, [[0], [0]]), Sound(4, [[0]]), Sound(4, [[0], [0], [0]]), steep, Sound(3, [[], []])]
+    return [
+        Call(sounds.wrap, lambda: {"number": -9, "depth": 4}, number=NUMBER, depth=depth(40)),
+        Call(sounds.fold, lambda: {"number": -3}, number=NUMBER),
+        Call(sounds.unfold, lambda: {"number": 5}, number=COUNT),
+        Call(Sound, lambda: {"depth": 4, "ways": [[1, 2], [3, -8]]}, depth=depth(24), ways=(e.InvalidList, ways)),
+        Call(Sound, lambda: {"depth": 4, "ways": [[1, 2], [3, -8]]}, depth=depth(24), ways=(e.InvalidRow, items)),
+        Call(sounds.part, lambda: {"sound": sound, "low": 1, "high": 3}, sound=SOUND, low=number(0, 3), high=number(1, 3)),
+        Call(sounds.joined, lambda: {"one": sound, "other": Sound(4, [[1], [2]])}, one=SOUND, other=SOUND),
+        Call(sounds.joined, lambda: {"one": sound, "other": Sound(4, [[1], [2]])}, one=SOUND, other=(e.Unlike, unlike)),
+        Call(sounds.number_bits, lambda: {"number": 6, "many": 4}, number=COUNT, many=number(0, 64)),
+        Call(sounds.bits_number, lambda: {"bits": "0110"}, bits=(e.InvalidBits, no_bits() + ["0" * 65])),
+    ]
+
+
+def guesser_calls():
+    items = [Told([1, bad, 2], bad) for bad in numbers_but(-2 ** 15, 2 ** 15)]
+    items += [Told([bad, None], bad) for bad in numbers_but(-2 ** 15, 2 ** 15)]
+    lists = no_objects(list) + [[0] * 9]
+    two = {"one": Guesser([3], 1), "other": Guesser([5, 1], 2)}
+    whole = {"one": steps(1), "other": Guesser([1, 2, -3], 0)}
+    none = {"one": steps(0), "other": Guesser([], 0)}
+    by, row = steps(2), [1, 3, 6, 7, -8]
+    short = (e.InvalidRow, no_lists() + [[], [1]])
+    return [
+        Call(Guesser, lambda: {"weights": [2, -1], "shift": 1}, weights=(e.InvalidList, lists), shift=number(0, 15)),
+        Call(Guesser, lambda: {"weights": [2, -1], "shift": 1}, weights=(e.InvalidItem, items), shift=number(0, 15)),
+        Call(guessers.guess, lambda: {"guesser": by, "before": [4, 6]}, guesser=GUESSER, before=short),
+        Call(guessers.steps, lambda: {"order": 3}, order=number(0, 8)),
+        Call(guessers.rests, lambda: {"guesser": by, "depth": 4, "row": list(row)},
+             guesser=GUESSER, depth=depth(32), row=samples(4)),
+        Call(guessers.row_of, lambda: {"guesser": by, "depth": 4, "rests": list(row)},
+             guesser=GUESSER, depth=depth(32), rests=samples(4)),
+        Call(guessers.plain_rests, lambda: {"guesser": by, "row": list(row)}, guesser=GUESSER, row=ROW),
+        Call(guessers.same_guess, lambda: dict(two), one=GUESSER, other=GUESSER),
+        Call(guessers.normal, lambda: {"guesser": Guesser([2, 4, 0], 2)}, guesser=GUESSER),
+        Call(guessers.parting_row, lambda: dict(two), one=GUESSER, other=GUESSER),
+        Call(guessers.bounds, lambda: {"guesser": by, "depth": 4}, guesser=GUESSER, depth=depth(32)),
+        Call(guessers.bound_rows, lambda: {"guesser": by, "depth": 4}, guesser=GUESSER, depth=depth(32)),
+        Call(guessers.bits_enough, lambda: {"guesser": by, "depth": 4}, guesser=GUESSER, depth=depth(32)),
+        Call(guessers.after, lambda: dict(whole), one=WHOLE, other=WHOLE),
+        Call(guessers.leads_to, lambda: dict(whole), one=WHOLE, other=WHOLE),
+        Call(guessers.same_rests, lambda: dict(whole, depth=3), one=WHOLE, other=WHOLE, depth=depth(32)),
+        Call(guessers.parting_rests, lambda: dict(whole, depth=3), one=WHOLE, other=WHOLE, depth=depth(32)),
+        Call(guessers.same_rests, lambda: dict(none, depth=3), one=WHOLE, other=WHOLE, depth=depth(32)),
+        Call(guessers.parting_rests, lambda: dict(none, depth=3), one=WHOLE, other=WHOLE, depth=depth(32)),
+        Call(guessers.tells, lambda: {"guesser": by, "row": list(row)}, guesser=GUESSER, row=ROW),
+        Call(guessers.hangs, lambda: {"guesser": by, "depth": 4, "row": list(row), "place": 1},
+             guesser=GUESSER, depth=depth(32), row=samples(4), place=number(0, 4)),
+        Call(weights.best_weight, lambda: {"row": [1, 2, 1, 7, -4]}, row=ROW),
+        Call(weights.is_best_weight, lambda: {"row": [1, 2, 1], "value": (1, Guesser([1], 0), [1, 2])}, row=ROW),
+    ]
+
+
+def healing_calls():
+    by = Guesser([2, 3], 0)
+    return [
+        Call(healing.spoilt, lambda: {"guesser": by, "depth": 3, "place": 3, "change": 1, "many": 9},
+             guesser=WHOLE, depth=depth(32), place=COUNT, change=NUMBER, many=number(4, None)),
+        Call(healing.spoilt_by_bit, lambda: {"guesser": by, "depth": 3, "place": 3, "bit": 1, "many": 9},
+             guesser=WHOLE, depth=depth(32), place=COUNT, bit=number(0, 2), many=number(4, None)),
+        Call(healing.healed_at, lambda: {"guesser": Guesser([2, 4], 0), "depth": 3, "place": 3, "change": 1},
+             guesser=WHOLE, depth=depth(32), place=COUNT, change=NUMBER),
+        Call(healing.most_spoilt, lambda: {"guesser": Guesser([2, 4], 0), "depth": 3}, guesser=WHOLE, depth=depth(32)),
+    ]
+
+
+def ever_calls():
+    two = {"depth": 4, "one": [1, 1], "firsts": [0, 1], "other": [2, 0, -1], "seconds": [0, 1, 1]}
+    row = {"depth": 3, "row": [1, 2, -4, 0, 1]}
+    at = depth(24)
+    both = {"one": rule(), "firsts": firsts(4, 2), "other": rule(), "seconds": firsts(4, 3)}
+    of_row = {"depth": at, "row": samples(3)}
+    told = (e.InvalidWeights, no_lists())
+    return [
+        Call(ever.is_told, lambda: {"depth": 4, "weights": [1, 1], "row": [0, 1, 1, 2]},
+             depth=at, weights=told, row=samples(4)),
+        Call(ever.sample_at, lambda: {"depth": 4, "weights": [1, 1], "firsts": [0, 1], "number": 10},
+             depth=at, weights=rule(), firsts=firsts(4, 2), number=number(0, 10 ** 18)),
+        Call(ever.first_parted, lambda: dict(two), depth=at, **both),
+        Call(ever.alike_from, lambda: dict(two), depth=at, **both),
+        Call(ever.period, lambda: {"depth": 4, "weights": [1, 1], "firsts": [0, 1]},
+             depth=at, weights=rule(), firsts=firsts(4, 2)),
+        Call(ever.longest_period, lambda: {"depth": 4, "weights": [1, 1]}, depth=at, weights=rule()),
+        Call(ever.returning, lambda: {"depth": 4, "weights": [1, 1], "number": 12},
+             depth=at, weights=rule(), number=number(1, 10 ** 18)),
+        Call(ever.leads_all, lambda: {"depth": 4, "one": [2, -1], "other": [1]}, depth=at, one=rule(), other=rule()),
+        Call(ever.shortest, lambda: dict(row), **of_row),
+        Call(ever.is_shortest, lambda: {"depth": 3, "row": [2, 1], "value": (2, [0, 0], [-4])}, **of_row),
+        Call(ever.how_many_rules, lambda: dict(row, many=2), many=number(0, 5), **of_row),
+        Call(ever.next_samples, lambda: dict(row, many=4), many=number(0, 5), **of_row),
+        Call(ever.next_paper, lambda: dict(row, many=4), many=number(0, 5), **of_row),
+        Call(ever.is_next_paper, lambda: dict(row, many=4, value=ever.next_paper(3, [1, 2, -4, 0, 1], 4)),
+             many=number(0, 5), **of_row),
+        Call(ever.shortest_whole, lambda: {"row": [2, 1, 3, 5]}, row=ROW),
+        Call(ever.is_shortest_whole, lambda: {"row": [2, 1], "value": (2, [0, 0], [(1, 2)])}, row=ROW),
+    ]
+
+
+def no_steps(wide):
+    """What is no step on so many ways, at least two."""
+    weights = [0] + [1] * (wide - 1)
+    lifts = [("lift", 0, weights), ("lift", 0, weights, 1, 1), ("lift", wide, weights, 1), ("lift", -1, weights, 1),
+             ("lift", 0, tuple(weights), 1), ("lift", 0, weights + [1], 1), ("lift", 0, weights[1:], 1),
+             ("lift", 1, weights, 1), ("lift", 0, weights, -1), ("lift", 0, weights, True), ("lift", 0, weights, None),
+             ("lift", -1, [1] * (wide - 1) + [0], 1), ("lift", False, weights, 1), ("lift", 0, [False] + weights[1:], 1), ("lift", 0, [0] + [None] * (wide - 1), 1),
+             ("lift", 0, [0] + [True] * (wide - 1), 1), ["lift", 0, weights, 1], ("lift",), ("lift", 0, None, 0)]
+    turns = [("turn",), ("turn", 0, 0), ("turn", wide), ("turn", -1), ("turn", None), ("turn", True), ["turn", 0],
+             ("turn", "0"), ("turn", [0])]
+    swaps = [("swap", 0), ("swap", 0, 0), ("swap", 0, wide), ("swap", -1, 0), ("swap", 0, True), ["swap", 0, 1],
+             ("swap", 0, 1, 0), ("swap", False, 1), ("swap", None, 1)]
+    others = [(), ("move", 0), (0, 0), (None, 1), "turn", "", None, True, 0, [], {}, {"turn": 0}, (("turn", 0),),
+              Mixer(1, []), Guesser([], 0), (Mixer(1, []), 0), (["turn"], 0)]
+    return lifts + turns + swaps + others
+
+
+def mixer_calls():
+    side = Mixer(2, [("lift", 1, [-1, 0], 0), ("lift", 0, [0, 1], 1), ("turn", 0), ("swap", 0, 1)])
+    other = Mixer(2, [("lift", 0, [0, 3], 1)])
+    items = [Told([("turn", 0), bad, ("turn", 1)], bad) for bad in no_steps(2)]
+    items += [Told([bad, None], bad) for bad in no_steps(2)]
+    moment = (e.InvalidSamples, no_lists() + [[], [1], [1, 2, 3]])
+    within = (e.InvalidSamples, no_samples(4) + [[], [1], [1, 2, 3]])
+    good = lambda: {"wide": 2, "steps": [("turn", 0), ("lift", 1, [3, 0], 2), ("swap", 1, 0)]}
+    unlike = [Mixer(1, []), Mixer(3, []), Mixer(4, [("turn", 3)])]
+    two = {"one": side, "other": other}
+    pairs = [mixers.joined_mixers, mixing.same_mix, mixing.parted_samples, mixing.commute]
+    calls = [
+        Call(Mixer, good, wide=number(1, 4), steps=(e.InvalidList, no_objects(list))),
+        Call(Mixer, good, wide=number(1, 4), steps=(e.InvalidItem, items)),
+        Call(mixers.mixed, lambda: {"mixer": side, "samples": [5, 8]}, mixer=MIXER, samples=moment),
+        Call(mixers.unmixed, lambda: {"mixer": side, "samples": [5, 8]}, mixer=MIXER, samples=moment),
+        Call(mixers.mixed_within, lambda: {"mixer": side, "depth": 4, "samples": [5, -8]},
+             mixer=MIXER, depth=depth(32), samples=within),
+        Call(mixers.unmixed_within, lambda: {"mixer": side, "depth": 4, "samples": [5, -8]},
+             mixer=MIXER, depth=depth(32), samples=within),
+    ]
+    for function in (mixers.matrix, mixers.halvings, mixers.undoing, mixers.tidy, mixing.misses):
+        calls.append(Call(function, lambda: {"mixer": side}, mixer=MIXER))
+    for function in pairs:
+        calls.append(Call(function, lambda: dict(two), one=MIXER, other=MIXER))
+        calls.append(Call(function, lambda: dict(two), one=MIXER, other=(e.Unlike, unlike)))
+    for function in (mixing.same_within, mixing.parted_within):
+        calls.append(Call(function, lambda: dict(two, depth=4), one=MIXER, other=MIXER, depth=depth(32)))
+        calls.append(Call(function, lambda: dict(two, depth=4), one=MIXER, other=(e.Unlike, unlike), depth=depth(32)))
+    for function in (mixing.enough, mixing.on_the_way):
+        calls.append(Call(function, lambda: {"mixer": side, "depth": 16}, mixer=MIXER, depth=depth(32)))
+    return calls + box_calls(side)
+
+
+def box_calls(side):
+    good = (0, 3)
+    boxes = [None, True, 3, "", (), (good, good), [], [good], [good] * 3, [good, None], [good, [0, 3]], [good, (0,)],
+             [good, (0, 3, 3)], [good, (4, 3)], [(True, 3), good], [(0, True), good], [good, ("0", 3)], [good, (0, None)],
+             {0: good, 1: good}, Mixer(2, []), [(0, 10 ** 29), (0, -1)]]
+    ones = [None, True, 3, "", (), [], [[1, 0]], [[1, 0], [0, 1], [0, 0]], [[1, 0], [0]], [[1, 0], [0, 1, 0]],
+            [[1, 0], (0, 1)], ((1, 0), (0, 1)), [[True, 0], [0, 1]], [[1, None], [0, 1]], [[1, 0], [0, "1"]],
+            [[1, 0], [0, 2]], [[1, 1], [1, 1]], [[2, 1], [1, 2]], [[0, 0], [0, 0]], {}, Mixer(2, []), [[1, 0], None]]
+    halved = [Mixer(2, [("lift", 0, [0, 2], 1)]), Mixer(2, [("turn", 0), ("lift", 0, [0, 0], 3)])]
+    whole = Mixer(2, [("lift", 0, [0, -1], 0), ("lift", 1, [1, 0], 0)])
+    return [
+        Call(mixing.ranges, lambda: {"mixer": side, "boxes": [(0, 3), (-7, 10 ** 29)]},
+             mixer=MIXER, boxes=(e.InvalidBoxes, boxes)),
+        Call(lifts.fewest_lifts, lambda: {"numbers": [[3, 4], [2, 3]]}, numbers=(e.InvalidMatrix, ones)),
+        Call(lifts.lifts_for, lambda: {"numbers": [[3, 4], [2, 3]]}, numbers=(e.InvalidMatrix, ones)),
+        Call(lifts.comes_back, lambda: {"mixer": whole}, mixer=(e.InvalidMixer, no_objects(Mixer) + halved)),
+    ]
+
+
+def share_calls():
+    counts = (e.InvalidCounts, no_lists() + [[-1], [4], [0, 3, 4]])
+    totals = {"many": number(1, None), "total": COUNT}
+    two = {"one": [3, 0, 5], "other": [4, 4]}
+    rows = {"many": number(1, None), "bits": COUNT}
+    calls = [
+        Call(shares.price, lambda: {"folds": [0, 3], "width": 1}, folds=FOLDS, width=WIDTH),
+        Call(shares.bit_counts, lambda: {"folds": [0, 3]}, folds=FOLDS),
+        Call(shares.same_prices, lambda: dict(two), one=FOLDS, other=FOLDS),
+        Call(shares.parting_width, lambda: dict(two), one=FOLDS, other=FOLDS),
+        Call(shares.row_of_counts, lambda: {"many": 3, "counts": [2, 0, 1]}, many=COUNT, counts=counts),
+        Call(shares.how_many_like, lambda: {"folds": [0, 3]}, folds=FOLDS),
+        Call(shares.least_width, lambda: {"folds": [1, 3]}, folds=FOLDS),
+        Call(shares.possible_widths, lambda: {"many": 2, "total": 4}, **totals),
+        Call(shares.safest, lambda: {"many": 2, "total": 6}, **totals),
+        Call(shares.how_many_least, lambda: {"many": 3, "bits": 2, "size": 5}, size=COUNT, **rows),
+        Call(shares.how_many_with, lambda: {"many": 3, "bits": 2, "width": 1}, width=WIDTH, **rows),
+        Call(shares.mean_least, lambda: {"many": 3, "bits": 2}, **rows),
+    ]
+    for function in (shares.price_bounds, shares.width_row, shares.loss, shares.loss_row):
+        calls.append(Call(function, lambda: {"many": 3, "total": 10, "width": 1}, width=WIDTH, **totals))
+    return calls
+
+
+def all_calls():
+    return (sound_calls() + guesser_calls() + healing_calls() + ever_calls() + mixer_calls() + share_calls())

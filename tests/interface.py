@@ -1,0 +1,67 @@
+"""The interface as far as it is built: modules, names, and the arguments' names."""
+
+import importlib
+
+VALUES = ["InvalidNumber", "InvalidDepth", "InvalidList", "InvalidItem", "InvalidRow", "InvalidSound", "InvalidGuesser",
+          "InvalidMixer", "InvalidCheck", "InvalidSettings", "InvalidEdit", "InvalidWeights", "InvalidSamples",
+          "InvalidBoxes", "InvalidMatrix", "InvalidFolds", "InvalidWidth", "InvalidCounts", "InvalidBits",
+          "InvalidPlaces", "InvalidPlan", "InvalidStream", "InvalidMark", "InvalidPieces", "InvalidFound",
+          "InvalidStarts", "InvalidText", "InvalidPiece", "Unlike"]
+
+MODULES = {
+    "errors": dict({name: "value" for name in VALUES}, NotDivisible="place", NothingToUndo=""),
+    "sounds": {
+        "wrap": "number depth", "fold": "number", "unfold": "number", "Sound": "depth ways",
+        "part": "sound low high", "joined": "one other", "number_bits": "number many", "bits_number": "bits",
+    },
+    "weights": {"best_weight": "row", "is_best_weight": "row value"},
+    "guessers": {
+        "Guesser": "weights shift", "guess": "guesser before", "steps": "order", "rests": "guesser depth row",
+        "row_of": "guesser depth rests", "plain_rests": "guesser row", "same_guess": "one other",
+        "normal": "guesser", "parting_row": "one other", "bounds": "guesser depth", "bound_rows": "guesser depth",
+        "bits_enough": "guesser depth", "after": "one other", "leads_to": "one other",
+        "same_rests": "one other depth", "parting_rests": "one other depth", "tells": "guesser row",
+        "hangs": "guesser depth row place",
+    },
+    "healing": {
+        "spoilt": "guesser depth place change many", "spoilt_by_bit": "guesser depth place bit many",
+        "healed_at": "guesser depth place change", "most_spoilt": "guesser depth",
+    },
+    "ever": {
+        "is_told": "depth weights row", "sample_at": "depth weights firsts number",
+        "first_parted": "depth one firsts other seconds", "alike_from": "depth one firsts other seconds",
+        "period": "depth weights firsts", "longest_period": "depth weights", "returning": "depth weights number",
+        "leads_all": "depth one other", "shortest": "depth row", "is_shortest": "depth row value",
+        "how_many_rules": "depth row many", "next_samples": "depth row many", "next_paper": "depth row many",
+        "is_next_paper": "depth row many value", "shortest_whole": "row", "is_shortest_whole": "row value",
+    },
+    "mixers": {
+        "Mixer": "wide steps", "mixed": "mixer samples", "unmixed": "mixer samples",
+        "mixed_within": "mixer depth samples", "unmixed_within": "mixer depth samples", "matrix": "mixer",
+        "halvings": "mixer", "undoing": "mixer", "joined_mixers": "one other", "tidy": "mixer",
+    },
+    "mixing": {
+        "misses": "mixer", "same_mix": "one other", "parted_samples": "one other", "ranges": "mixer boxes",
+        "enough": "mixer depth", "on_the_way": "mixer depth", "same_within": "one other depth",
+        "parted_within": "one other depth", "commute": "one other",
+    },
+    "lifts": {"fewest_lifts": "numbers", "lifts_for": "numbers", "comes_back": "mixer"},
+    "shares": {
+        "price": "folds width", "bit_counts": "folds", "same_prices": "one other", "parting_width": "one other",
+        "row_of_counts": "many counts", "how_many_like": "folds", "least_width": "folds",
+        "price_bounds": "many total width", "possible_widths": "many total", "width_row": "many total width",
+        "loss": "many total width", "loss_row": "many total width", "safest": "many total",
+        "how_many_least": "many bits size", "how_many_with": "many bits width", "mean_least": "many bits",
+    },
+}
+
+CLASSES = {
+    ("sounds", "Sound"): {"depth": "", "ways": "", "way": "at", "many": "", "__eq__": "other"},
+    ("guessers", "Guesser"): {"weights": "", "shift": "", "order": "", "__eq__": "other"},
+    ("mixers", "Mixer"): {"wide": "", "steps": "", "__eq__": "other"},
+}
+
+
+def named(module, name):
+    """What a name of the interface stands for."""
+    return getattr(importlib.import_module("wholesound." + module), name)

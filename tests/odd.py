@@ -1,0 +1,91 @@
+"""Values that fit nowhere, and helpers to look at results."""
+
+from wholesound.guessers import Guesser
+from wholesound.mixers import Mixer
+from wholesound.sounds import Sound
+
+
+def deep(levels):
+    value = []
+    for _ in range(levels):
+        value = [value]
+    return value
+
+
+def things():
+    """Any values that are neither numbers, nor lists but the deep one, nor strings of bits."""
+    return [None, True, False, "x", "12", (), (1, 2), {}, {0: 1}, {"a": []}, deep(29),
+            Sound(4, [[1, 2]]), Guesser([2, -1], 0), Mixer(1, [])]
+
+
+def no_numbers():
+    return things() + ["", "1", [], [1], (1,), [[]], ("turn", 0)]
+
+
+def numbers_but(low, high):
+    """What is no whole number from low to high (None: no bound)."""
+    more = [] if low is None else [low - 1, low - 10 ** 29]
+    return no_numbers() + more + ([] if high is None else [high + 1, high + 10 ** 29])
+
+
+def no_lists():
+    """What is no list of numbers, whatever their bounds."""
+    return [None, True, False, 0, 3, "", "01", (), (1, 2), {}, {0: 1}, deep(29), [None], [True], [1, False], ["1"],
+            [[1]], [1, (2,)], [1, None, 2], [1, 2, True], [0, 1, "0"], [Guesser([], 0)], [[1, 2]], [()],
+            Sound(4, [[1, 2]]), Guesser([2, -1], 0), Mixer(1, [])]
+
+
+def no_samples(depth):
+    low, high = -2 ** (depth - 1), 2 ** (depth - 1) - 1
+    return no_lists() + [[low - 1], [high + 1], [0, low, high, high + 1], [low - 1, 0], [10 ** 29]]
+
+
+def no_objects(kind):
+    """What is no object of a class."""
+    return [value for value in things() + [0, 1, [], [1], "", deep(3)] if not isinstance(value, kind)]
+
+
+def no_bits():
+    return [None, True, 0, 1, 10, "2", "01a", " ", "0 1", "0\n", ["0", "1"], ("0",), [], {}, Guesser([], 0), "-1", "0b1"]
+
+
+def frozen(value):
+    """The value as nested tuples that show all that is in it, objects and kinds included."""
+    if isinstance(value, Sound):
+        return ("Sound", value.depth(), frozen(value.ways()))
+    if isinstance(value, Guesser):
+        return ("Guesser", frozen(value.weights()), value.shift())
+    if isinstance(value, Mixer):
+        return ("Mixer", value.wide(), frozen(value.steps()))
+    if isinstance(value, (list, tuple)):
+        return (type(value).__name__,) + tuple(frozen(item) for item in value)
+    if isinstance(value, dict):
+        return ("dict",) + tuple((frozen(key), frozen(item)) for key, item in value.items())
+    return (type(value).__name__, value)
+
+
+def lists_within(value):
+    """All list objects in a value, one by one."""
+    found = []
+    if isinstance(value, (list, tuple)):
+        if isinstance(value, list):
+            found.append(value)
+        for item in value:
+            found += lists_within(item)
+    return found
+
+
+def spoil(value):
+    """Change all lists in a value."""
+    for item in lists_within(value):
+        item.append("spoilt")
+        item.insert(0, None)
+
+
+def plain(value):
+    """Whether a result is made of what [2] lets results be made of."""
+    if value is None or isinstance(value, (Sound, Guesser, Mixer)):
+        return True
+    if isinstance(value, (list, tuple)):
+        return type(value) in (list, tuple) and all(plain(item) for item in value)
+    return type(value) in (bool, int, str)

@@ -1,0 +1,1 @@
+"""Sounds kept without loss, and what their tools do for all sounds."""
