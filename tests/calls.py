@@ -5,9 +5,12 @@ tells something else (an item of the value).
 """
 
 from wholesound import errors as e
-from wholesound import ever, guessers, healing, lifts, mixers, mixing, shares, sounds, weights
+from wholesound import allsounds, checks, ever, guessers, healing, lifts, mending, mixers, mixing, settings, shares
+from wholesound import sounds, stretches, weights
+from wholesound.checks import Check
 from wholesound.guessers import Guesser, steps
 from wholesound.mixers import Mixer
+from wholesound.settings import Settings
 from wholesound.sounds import Sound
 
 from tests.odd import no_bits, no_lists, no_numbers, no_objects, no_samples, numbers_but
@@ -30,6 +33,16 @@ class Call:
     def name(self):
         return f"{self.function.__module__}.{self.function.__name__}"
 
+    def looked_at(self):
+        """The names of the arguments in the order in which they are looked at."""
+        return list(self.good())
+
+
+class GapCall(Call):
+
+    def looked_at(self):
+        return ["depth", "one", "other"]
+
 
 NUMBER = (e.InvalidNumber, no_numbers())
 COUNT = (e.InvalidNumber, numbers_but(0, None))
@@ -40,6 +53,9 @@ SOUND = (e.InvalidSound, no_objects(Sound))
 ROW = (e.InvalidRow, no_lists())
 FOLDS = (e.InvalidFolds, no_lists() + [[-1], [0, 1, -5]])
 WIDTH = (e.InvalidWidth, numbers_but(0, 120))
+BITS = (e.InvalidBits, no_bits())
+CHECK = (e.InvalidCheck, no_objects(Check))
+SETTINGS = (e.InvalidSettings, no_objects(Settings))
 
 
 def number(low, high):
@@ -261,5 +277,136 @@ def share_calls():
     return calls
 
 
+def stretch_calls():
+    folds = {"folds": FOLDS}
+    raw = (e.InvalidNumber, [value for value in numbers_but(0, None) if value is not None])
+    cut = {"few": number(1, None), "cost": COUNT, "bits": raw}
+    row = [0, 3, 9, 0, 1]
+    gain = {"one": COUNT, "other": COUNT, "bits": COUNT}
+    paper = stretches.least_cuts(row, 2, 3, 2)
+    return [
+        Call(stretches.written, lambda: {"folds": [0, 3], "width": 1}, width=WIDTH, **folds),
+        Call(stretches.read_folds, lambda: {"bits": "0010111", "width": 1, "many": 2}, bits=BITS, width=WIDTH, many=COUNT),
+        Call(stretches.readings, lambda: {"bits": "00000", "most": 4}, bits=BITS, most=WIDTH),
+        Call(stretches.both_read, lambda: {"one": 2, "other": 1}, one=WIDTH, other=WIDTH),
+        Call(stretches.turned_reading, lambda: {"folds": [0, 3], "width": 1, "at": 4}, at=number(0, 4), width=WIDTH, **folds),
+        Call(stretches.least_cuts, lambda: {"folds": list(row), "few": 2, "cost": 3, "bits": 2}, **folds, **cut),
+        Call(stretches.is_cuts_paper, lambda: {"folds": list(row), "few": 2, "cost": 3, "bits": 2, "value": paper}, **folds, **cut),
+        Call(stretches.how_many_cuts, lambda: {"folds": list(row), "few": 2, "cost": 3, "bits": 2}, **folds, **cut),
+        Call(stretches.greatest_gain, lambda: {"one": 2, "other": 3, "bits": 4}, **gain),
+        Call(stretches.gain_rows, lambda: {"one": 2, "other": 3, "bits": 4}, **gain),
+        Call(stretches.never_pays, lambda: {"one": 2, "other": 3, "bits": 4, "cost": 5}, cost=COUNT, **gain),
+        Call(stretches.halves, lambda: {"folds": [0, 0, 7, 7], "most": 2}, most=COUNT, **folds),
+        Call(stretches.least_half, lambda: {"folds": [0, 0, 7, 7], "most": 2, "cost": 1}, most=COUNT, cost=COUNT, **folds),
+    ]
+
+
+def allsound_calls():
+    kept = {"depth": depth(24), "width": (e.InvalidWidth, numbers_but(0, 3))}
+    many = number(0, 200)
+    by = {"guesser": steps(1), "depth": 3, "width": 1}
+    many_rows = allsounds.how_many(3, 1, 4, 12)
+    long_row = (e.InvalidRow, no_samples(3) + [[0] * 201, [1, -4] * 150])
+    apart = (e.InvalidWidth, numbers_but(1, 11))
+    widths = {"one": (e.InvalidWidth, numbers_but(0, 3)), "other": (e.InvalidWidth, numbers_but(0, 3))}
+    return [
+        Call(allsounds.how_many, lambda: {"depth": 3, "width": 1, "many": 4, "size": 12}, many=many, size=COUNT, **kept),
+        Call(allsounds.size_bounds, lambda: {"depth": 3, "width": 1, "many": 4}, many=many, **kept),
+        Call(allsounds.row_at, lambda: dict(by, many=4, size=12, number=5),
+             guesser=GUESSER, many=many, size=COUNT, number=number(0, many_rows - 1), **kept),
+        Call(allsounds.number_of, lambda: dict(by, row=[3, -4, 0]), guesser=GUESSER, row=long_row, **kept),
+        Call(allsounds.fair, lambda: {"depth": 3, "width": 1}, **kept),
+        Call(allsounds.fair, lambda: {"depth": 11, "width": 1}, depth=depth(24), width=apart),
+        Call(allsounds.mean, lambda: {"depth": 3, "width": 1}, **kept),
+        Call(allsounds.least_means, lambda: {"depth": 3}, depth=depth(24)),
+        GapCall(allsounds.gap, lambda: {"one": 0, "other": 1, "depth": 3}, depth=depth(24), **widths),
+    ]
+
+
+def no_places():
+    return no_lists() + [[-1], [0, 0], [1, 0], [0, 5, 5], [0, 2, 1], [10 ** 18 + 1], [0, 10 ** 29], [-3, 0, 1]]
+
+
+def check_calls():
+    three = Check(3, 3)
+    places = (e.InvalidPlaces, no_places())
+    below = number(0, 7)
+    far = number(0, 10 ** 18)
+    no_shape = (e.InvalidPlaces, no_places() + [[], [0], [0, 1], [1, 2, 4], [0, 2], [0, 1, 3, 1001], [0, 1001]])
+    lows = numbers_but(1, 15) + [2, 4, 14, 16, 17]
+    calls = [
+        Call(Check, lambda: {"width": 4, "low": 3}, width=number(1, 16), low=(e.InvalidNumber, lows)),
+        Call(checks.power, lambda: {"check": three, "many": 10}, check=CHECK, many=far),
+        Call(checks.joined_word, lambda: {"check": three, "one": 3, "other": 7, "many": 5},
+             check=CHECK, one=below, other=below, many=far),
+        Call(checks.turned_word, lambda: {"check": three, "one": 5, "places": [0, 4]}, check=CHECK, one=below, places=places),
+        Call(checks.unseen, lambda: {"check": three, "places": [1, 2, 4]}, check=CHECK, places=places),
+        Call(checks.order, lambda: {"check": three}, check=CHECK),
+        Call(checks.all_odd, lambda: {"check": three}, check=CHECK),
+        Call(checks.distance, lambda: {"check": three, "many": 4}, check=CHECK, many=far),
+        Call(checks.least_unseen, lambda: {"check": three, "many": 4}, check=CHECK, many=far),
+        Call(checks.longest, lambda: {"check": three, "few": 4}, check=CHECK, few=number(3, 5)),
+        Call(checks.how_many_shapes, lambda: {"check": three, "span": 6}, check=CHECK, span=number(0, 1000)),
+        Call(checks.shape_at, lambda: {"check": three, "span": 6, "number": 2},
+             check=CHECK, span=number(0, 1000), number=number(0, 3)),
+        Call(checks.shape_number, lambda: {"check": three, "places": [0, 3, 5, 6]}, check=CHECK, places=no_shape),
+    ]
+    for function in (checks.rest, checks.word, checks.sealed, checks.is_right):
+        calls.append(Call(function, lambda: {"check": three, "bits": "11010"}, check=CHECK, bits=BITS))
+    return calls
+
+
+def mending_calls():
+    three, four = Check(3, 3), Check(4, 13)
+    lost = (e.InvalidPlaces, no_places() + [list(range(65)), list(range(0, 10 ** 18, 10 ** 16))])
+    lossy = (e.InvalidBits, [value for value in no_bits() if value != "?"] + ["?2", "0 ?", ["?"]])
+    narrow = (e.InvalidCheck, no_objects(Check) + [Check(11, 5), Check(16, 4107)])
+    two = {"one": three, "other": four}
+    both = {"one": CHECK, "other": CHECK}
+    lists = checks.least_unseen(three, 8)
+    return [
+        Call(mending.can_fill, lambda: {"check": three, "places": [0, 4, 5]}, check=CHECK, places=lost),
+        Call(mending.can_fill, lambda: {"check": three, "places": [0, 4, 5, 9]}, check=CHECK, places=lost),
+        Call(mending.is_fill, lambda: {"check": three, "places": [0, 1, 7], "value": ("no", lists)}, check=CHECK, places=lost),
+        Call(mending.how_many_filled, lambda: {"check": three, "bits": "1?1??"}, check=CHECK, bits=lossy),
+        Call(mending.filled_at, lambda: {"check": three, "bits": "??1??", "number": 1},
+             check=CHECK, bits=lossy, number=number(0, 1)),
+        Call(mending.mends, lambda: {"check": three, "bits": "1111001", "most": 2}, check=CHECK, bits=BITS, most=number(0, 2)),
+        Call(mending.how_many_unseen, lambda: {"check": three, "many": 7, "few": 3},
+             check=narrow, many=number(0, 10 ** 18), few=number(0, 8)),
+        Call(mending.chance, lambda: {"check": three, "many": 7, "top": 3, "under": 5},
+             check=narrow, many=number(0, 60), top=number(0, 1000), under=number(3, 1000)),
+        Call(mending.chance, lambda: {"check": three, "many": 7, "top": 0, "under": 1},
+             check=narrow, many=number(0, 60), top=number(0, 1000), under=number(1, 1000)),
+        Call(mending.also_right, lambda: dict(two), **both),
+        Call(mending.parted_bits, lambda: dict(two), **both),
+        Call(mending.together, lambda: dict(two), **both),
+        Call(mending.shared, lambda: dict(two), **both),
+        Call(mending.bits_with, lambda: dict(two, left=5, right=3), left=number(0, 7), right=number(0, 15), **both),
+    ]
+
+
+def settings_calls():
+    one, two = Mixer(1, []), Mixer(2, [("turn", 1)])
+    mix = Mixer(2, [("lift", 0, [0, 1], 1)])
+    good = lambda: {"lengths": [2, 4], "mixers": [mix, two], "guessers": [steps(1), steps(2)], "parts": 1}
+    lengths = no_lists() + [[], [0], [4096], [1, 1], [2, 1], [1, 2, 3, 4, 5, 6, 7], [0, 1], [1, 4096], [-1, 1]]
+    many = no_objects(list) + [[], [one] * 9, (one,)]
+    items = [Told([two, bad, one], bad) for bad in no_objects(Mixer) + [one, Mixer(3, [])]]
+    items += [Told([bad, two], bad) for bad in no_objects(Mixer)]
+    by = no_objects(list) + [[steps(1)] * 17, (steps(1),)]
+    ones = [Told([steps(1), bad, None], bad) for bad in no_objects(Guesser)]
+    wrong = {"lengths": (e.InvalidList, lengths), "parts": number(0, 4)}
+    lists = {"mixers": (e.InvalidList, many), "guessers": (e.InvalidList, by)}
+    members = {"mixers": (e.InvalidMixer, items), "guessers": (e.InvalidGuesser, ones)}
+    return [
+        Call(Settings, good, **wrong, **lists),
+        Call(Settings, good, **wrong, **members),
+        Call(settings.wide, lambda: {"settings": Settings([2], [mix, two], [], 0), "depth": 4},
+             settings=SETTINGS, depth=depth(24)),
+    ]
+
+
 def all_calls():
-    return (sound_calls() + guesser_calls() + healing_calls() + ever_calls() + mixer_calls() + share_calls())
+    return (sound_calls() + guesser_calls() + healing_calls() + ever_calls() + mixer_calls() + share_calls()
+            + stretch_calls() + allsound_calls() + check_calls() + mending_calls() + settings_calls())

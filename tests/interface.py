@@ -53,12 +53,42 @@ MODULES = {
         "loss": "many total width", "loss_row": "many total width", "safest": "many total",
         "how_many_least": "many bits size", "how_many_with": "many bits width", "mean_least": "many bits",
     },
+    "stretches": {
+        "written": "folds width", "read_folds": "bits width many", "readings": "bits most", "both_read": "one other",
+        "turned_reading": "folds width at", "least_cuts": "folds few cost bits",
+        "is_cuts_paper": "folds few cost bits value", "how_many_cuts": "folds few cost bits",
+        "greatest_gain": "one other bits", "gain_rows": "one other bits", "never_pays": "one other bits cost",
+        "halves": "folds most", "least_half": "folds most cost",
+    },
+    "allsounds": {
+        "how_many": "depth width many size", "size_bounds": "depth width many",
+        "row_at": "guesser depth width many size number", "number_of": "guesser depth width row",
+        "fair": "depth width", "mean": "depth width", "least_means": "depth", "gap": "one other depth",
+    },
+    "checks": {
+        "Check": "width low", "rest": "check bits", "word": "check bits", "sealed": "check bits",
+        "is_right": "check bits", "power": "check many", "joined_word": "check one other many",
+        "turned_word": "check one places", "unseen": "check places", "order": "check", "distance": "check many",
+        "least_unseen": "check many", "longest": "check few", "all_odd": "check", "how_many_shapes": "check span",
+        "shape_at": "check span number", "shape_number": "check places",
+    },
+    "mending": {
+        "can_fill": "check places", "is_fill": "check places value", "how_many_filled": "check bits",
+        "filled_at": "check bits number", "mends": "check bits most", "how_many_unseen": "check many few",
+        "chance": "check many top under", "also_right": "one other", "parted_bits": "one other",
+        "together": "one other", "shared": "one other", "bits_with": "one other left right",
+    },
+    "settings": {"Settings": "lengths mixers guessers parts", "wide": "settings depth"},
 }
 
 CLASSES = {
     ("sounds", "Sound"): {"depth": "", "ways": "", "way": "at", "many": "", "__eq__": "other"},
     ("guessers", "Guesser"): {"weights": "", "shift": "", "order": "", "__eq__": "other"},
     ("mixers", "Mixer"): {"wide": "", "steps": "", "__eq__": "other"},
+    ("checks", "Check"): {"bits": "", "__eq__": "other"},
+    ("settings", "Settings"): {
+        "lengths": "", "mixers": "", "guessers": "", "parts": "", "ways": "", "__eq__": "other",
+    },
 }
 
 

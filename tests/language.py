@@ -47,6 +47,7 @@ class Look:
         self.trees = {}
         self.found = []
         self.own_methods = set()
+        self.properties = set()
         self.classes = set()
 
     def breach(self, rule, name, line):
@@ -60,7 +61,11 @@ class Look:
             for node in ast.walk(tree):
                 if isinstance(node, ast.ClassDef):
                     self.classes.add(node.name)
-                    self.own_methods |= {one.name for one in node.body if isinstance(one, ast.FunctionDef)}
+                    for one in node.body:
+                        if isinstance(one, ast.FunctionDef):
+                            (self.properties if one.decorator_list else self.own_methods).add(one.name)
+        for one in self.properties & (self.own_methods | METHODS):
+            self.breach("L5", one, 0)
         for name, tree in self.trees.items():
             self.module(name, tree)
             self.names(name, tree)
@@ -221,7 +226,9 @@ class Look:
     def one_function(self, name, node, is_method):
         if node.end_lineno - node.lineno + 1 > 40:
             self.breach("L10", name, node.lineno)
-        if node.decorator_list or node.args.vararg or node.args.kwarg or node.args.kwonlyargs or node.args.posonlyargs:
+        if node.decorator_list and not (is_method and self.is_property(node)):
+            self.breach("L5", name, node.lineno)
+        if node.args.vararg or node.args.kwarg or node.args.kwonlyargs or node.args.posonlyargs:
             self.breach("L4", name, node.lineno)
         for default in node.args.defaults:
             if not isinstance(default, ast.Constant):
@@ -233,6 +240,13 @@ class Look:
         for one in ast.walk(node):
             if isinstance(one, (ast.FunctionDef, ast.Lambda)) and one is not node:
                 self.breach("L4", name, one.lineno)
+
+    def is_property(self, node):
+        """Whether a method is a property that only reads one attribute of its own object."""
+        names = [one.id for one in node.decorator_list if isinstance(one, ast.Name)]
+        rows = node.body[1:] if ast.get_docstring(node) is not None else node.body
+        reads = len(rows) == 1 and isinstance(rows[0], ast.Return) and isinstance(rows[0].value, ast.Attribute)
+        return names == ["property"] and len(node.args.args) == 1 and reads
 
     def nodes(self, name, tree):
         docstrings = set()
@@ -276,6 +290,8 @@ class Look:
         if isinstance(above, ast.Call) and above.func is node and node.id in CALLED:
             return
         if node.id in ERROR_BASES and isinstance(above, ast.ClassDef):
+            return
+        if node.id == "property" and isinstance(above, ast.FunctionDef) and node in above.decorator_list:
             return
         second = above if isinstance(above, ast.Call) else getattr(above, "above", None)
         if isinstance(second, ast.Call) and isinstance(second.func, ast.Name) and second.func.id == "isinstance":

@@ -1,8 +1,12 @@
 """Values that fit nowhere, and helpers to look at results."""
 
+from wholesound.checks import Check
 from wholesound.guessers import Guesser
 from wholesound.mixers import Mixer
+from wholesound.settings import Settings
 from wholesound.sounds import Sound
+
+OWN = (Sound, Guesser, Mixer, Check, Settings)
 
 
 def deep(levels):
@@ -15,7 +19,7 @@ def deep(levels):
 def things():
     """Any values that are neither numbers, nor lists but the deep one, nor strings of bits."""
     return [None, True, False, "x", "12", (), (1, 2), {}, {0: 1}, {"a": []}, deep(29),
-            Sound(4, [[1, 2]]), Guesser([2, -1], 0), Mixer(1, [])]
+            Sound(4, [[1, 2]]), Guesser([2, -1], 0), Mixer(1, []), Check(3, 3), Settings([1], [Mixer(1, [])], [], 0)]
 
 
 def no_numbers():
@@ -32,7 +36,7 @@ def no_lists():
     """What is no list of numbers, whatever their bounds."""
     return [None, True, False, 0, 3, "", "01", (), (1, 2), {}, {0: 1}, deep(29), [None], [True], [1, False], ["1"],
             [[1]], [1, (2,)], [1, None, 2], [1, 2, True], [0, 1, "0"], [Guesser([], 0)], [[1, 2]], [()],
-            Sound(4, [[1, 2]]), Guesser([2, -1], 0), Mixer(1, [])]
+            Sound(4, [[1, 2]]), Guesser([2, -1], 0), Mixer(1, []), Check(3, 3), [Check(3, 3)]]
 
 
 def no_samples(depth):
@@ -57,6 +61,11 @@ def frozen(value):
         return ("Guesser", frozen(value.weights()), value.shift())
     if isinstance(value, Mixer):
         return ("Mixer", value.wide(), frozen(value.steps()))
+    if isinstance(value, Check):
+        return ("Check", value.width, value.low)
+    if isinstance(value, Settings):
+        parts = [value.lengths(), value.mixers(), value.guessers(), value.parts()]
+        return ("Settings",) + tuple(frozen(part) for part in parts)
     if isinstance(value, (list, tuple)):
         return (type(value).__name__,) + tuple(frozen(item) for item in value)
     if isinstance(value, dict):
@@ -84,8 +93,34 @@ def spoil(value):
 
 def plain(value):
     """Whether a result is made of what [2] lets results be made of."""
-    if value is None or isinstance(value, (Sound, Guesser, Mixer)):
+    if value is None or isinstance(value, OWN):
         return True
     if isinstance(value, (list, tuple)):
         return type(value) in (list, tuple) and all(plain(item) for item in value)
     return type(value) in (bool, int, str)
+
+
+def swapped(value):
+    """What stands for a value in one spot and is never as good: another kind of list, a Boolean, nothing."""
+    if isinstance(value, bool) or value is None:
+        return [False, 0.5, "", [value], deep(28)]
+    if isinstance(value, int):
+        return [True, False, None, str(value), [value], (value,), {value: value}, deep(28), Guesser([], 0)]
+    if isinstance(value, str):
+        return [None, True, "", value + " ", [value], (value,), Check(1, 1)]
+    if isinstance(value, list):
+        return [tuple(value), None, True, 0, {at: item for at, item in enumerate(value)}, value + [None], [value]]
+    if isinstance(value, tuple):
+        return [list(value), None, False, value + (None,), value[:-1], (value,)]
+    return [None, True, 0, [value], "x"]
+
+
+def bent(value):
+    """The value with one spot in it swapped, for each spot."""
+    found = swapped(value)
+    if isinstance(value, (list, tuple)):
+        for at, item in enumerate(value):
+            for other in bent(item):
+                items = list(value[:at]) + [other] + list(value[at + 1:])
+                found.append(items if isinstance(value, list) else tuple(items))
+    return found

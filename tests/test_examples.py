@@ -68,10 +68,33 @@ up = Mixer(2, [("turn", 0), ("lift", 0, [0, -1], 1), ("turn", 0)])
 
 from wholesound.shares import how_many_least, how_many_like, least_width, loss, mean_least, possible_widths, price
 from wholesound.shares import row_of_counts, safest
+from wholesound.stretches import both_read, least_cuts, least_half, read_folds, turned_reading, written
 [price([0, 3], 1), how_many_like([0, 3]), row_of_counts(3, [2, 0, 1]), least_width([1, 3]), least_width([2, 2]), possible_widths(2, 4)]
 # [5, 4, [5, 1, 0], (5, 1, 1), (6, 0, 2), (0, 1)]
-[loss(2, 6, 0), safest(2, 6), how_many_least(1, 2, 3), mean_least(1, 2)]
-# [2, (1, 0), 2, (9, 4)]
+[loss(2, 6, 0), safest(2, 6), how_many_least(1, 2, 3), mean_least(1, 2), written([0, 3], 1), read_folds("0010111", 1, 2), both_read(0, 1), both_read(1, 1)]
+# [2, (1, 0), 2, (9, 4), '00101', ([0, 3], '11'), ('00', [0, 0], [0]), ('00', [0], [0])]
+[turned_reading([0, 3], 1, 0), least_cuts([0, 0, 7, 0, 0], 1, 5)[:2], least_half([0, 0, 7, 7], 2, 5)]
+# [([3, 1], '', 5), (17, [(5, 0)]), (0, 19)]
+
+from wholesound.allsounds import fair, gap, how_many, least_means, mean, number_of, row_at, size_bounds
+from wholesound.guessers import steps
+[how_many(2, 0, 2, 4), size_bounds(2, 1, 3), row_at(steps(1), 2, 0, 2, 4, 1), number_of(steps(1), 2, 0, [-1, 0]), fair(2, 0), mean(3, 1), least_means(3), gap(0, 1, 3)]
+# [3, (6, 9), [-1, -2], (5, 1), (15, 16), (7, 2), [1, 2], (3, 7)]
+
+from wholesound.checks import Check, distance, how_many_shapes, joined_word, least_unseen, longest, order, sealed
+from wholesound.checks import shape_at, turned_word
+from wholesound.mending import bits_with, can_fill, chance, filled_at, how_many_unseen, mends, together
+three = Check(3, 3)
+[three.bits(), sealed(three, "1"), sealed(three, "11"), joined_word(three, 3, 3, 1), turned_word(three, 5, [0])]
+# ['1011', '1011', '11101', 5, 6]
+[order(three), longest(three, 4), longest(three, 5), distance(three, 3), distance(three, 7), distance(three, 8), least_unseen(three, 4)]
+# [7, 3, 3, None, 3, 2, [0, 1, 3]]
+[how_many_shapes(three, 6), shape_at(three, 6, 0), shape_at(three, 6, 2), can_fill(three, [0, 1, 2]), filled_at(three, "1?1?", 0)]
+# [4, [0, 2, 6], [0, 3, 5, 6], ('yes', [1, 2, 4]), '1011']
+[mends(three, "1111001", 1), mends(three, "1111001", 2), how_many_unseen(three, 7, 3), chance(three, 7, 1, 2)]
+# [[[4]], [[4], [0, 5], [1, 2], [3, 6]], 7, (15, 128)]
+[together(Check(1, 1), three) == Check(4, 13), bits_with(Check(1, 1), three, 1, 0), bits_with(Check(4, 13), three, 1, 0)]
+# [True, '1011', None]
 '''
 
 

@@ -6,10 +6,11 @@ import itertools
 import unittest
 
 from wholesound import errors
+from wholesound.checks import Check
 from wholesound.errors import SoundError
 
 from tests.calls import Told, all_calls
-from tests.odd import frozen, lists_within, plain, spoil
+from tests.odd import bent, frozen, lists_within, no_lists, no_numbers, plain, spoil, things
 from tests.interface import CLASSES, MODULES, named
 
 
@@ -44,7 +45,7 @@ class Refusals(unittest.TestCase):
 
     def test_of_two_wrong_arguments_the_first_is_told(self):
         for call in all_calls():
-            names = [name for name in call.good() if name in call.wrong]
+            names = [name for name in call.looked_at() if name in call.wrong]
             for first, second in itertools.combinations(names, 2):
                 for kind, value, told in self.wrong(call, first):
                     for _, other, _ in self.wrong(call, second)[:3] + self.wrong(call, second)[-2:]:
@@ -55,7 +56,7 @@ class Refusals(unittest.TestCase):
 
     def test_all_arguments_wrong_at_once(self):
         for call in all_calls():
-            names = [name for name in call.good() if name in call.wrong]
+            names = [name for name in call.looked_at() if name in call.wrong]
             arguments = call.good()
             for name in names:
                 arguments[name] = self.wrong(call, name)[0][1]
@@ -123,9 +124,20 @@ class Calls(unittest.TestCase):
                 spoil(value)
             self.assertEqual(frozen(result), told, call.name())
 
+    def test_judges_take_any_value(self):
+        for call in all_calls():
+            judged = [name for name in call.good() if name not in call.wrong]
+            for name in judged:
+                arguments = call.good()
+                self.assertIs(call.function(**arguments), True, call.name())
+                for value in things() + no_numbers() + no_lists() + bent(arguments[name]):
+                    told = call.function(**dict(arguments, **{name: value}))
+                    self.assertIs(told, False, (call.name(), value))
+
     def test_whether_is_told_by_true_or_false(self):
         names = ["same_guess", "same_rests", "tells", "is_best_weight", "is_told", "is_shortest", "is_next_paper",
-                 "is_shortest_whole", "same_mix", "same_within", "commute", "same_prices"]
+                 "is_shortest_whole", "same_mix", "same_within", "commute", "same_prices", "is_cuts_paper", "never_pays",
+                 "is_right", "unseen", "all_odd", "is_fill", "also_right"]
         for call in all_calls():
             if call.function.__name__ in names:
                 self.assertIs(type(call.function(**call.good())), bool, call.name())
@@ -152,6 +164,16 @@ class Interface(unittest.TestCase):
             for method, arguments in methods.items():
                 found = vars(named(module, name))[method]
                 self.assertEqual(list(inspect.signature(found).parameters), ["self"] + arguments.split())
+
+
+class Properties(unittest.TestCase):
+
+    def test_those_of_a_check_are_read_only(self):
+        check = Check(5, 9)
+        self.assertEqual((check.width, check.low), (5, 9))
+        for name in ("width", "low"):
+            self.assertIsInstance(vars(Check)[name], property)
+            self.assertRaises(AttributeError, setattr, check, name, 3)
 
 
 class Errors(unittest.TestCase):

@@ -36,6 +36,9 @@ BAD = [
     ("L25", "def one(two):\n    return two.append(item=1)\n"), ("L27", "def one(two):\n    return 2 ** two\n"),
     ("L27", "A = 'a % b'\n"), ("L27", "A = '\\x00'\n"), ("L27", "A = b''\n"),
     ("L18", "class One:\n    def two(self):\n        self.two = 1\n"),
+    ("L5", "@one\ndef one():\n    return 1\n"), ("L5", "class One:\n    @staticmethod\n    def two():\n        return 1\n"),
+    ("L5", "class One:\n    @property\n    def two(self):\n        self.rows.append(1)\n        return self.rows\n"),
+    ("L5", "class One:\n    @property\n    def two(self):\n        return self._two\n\n\nclass Two:\n    def two(self):\n        return 1\n"),
 ]
 
 

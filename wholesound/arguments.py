@@ -1,6 +1,6 @@
 """What arguments are: numbers, lists of numbers and bits, and the checks that several modules share."""
 
-from wholesound.errors import InvalidDepth, InvalidNumber
+from wholesound.errors import InvalidBits, InvalidDepth, InvalidNumber
 
 
 def is_number(value):
@@ -60,3 +60,9 @@ def check_depth(depth, most):
     """Refuse what is no depth from 1 to `most`."""
     if not is_within(depth, 1, most):
         raise InvalidDepth(depth)
+
+
+def check_bits(bits):
+    """Refuse what is no bits."""
+    if not is_bits(bits):
+        raise InvalidBits(bits)

@@ -29,7 +29,7 @@ def check_rows(many, total):
     check_count(total)
 
 
-def cost(folds, width):
+def cost_at(folds, width):
     """The sum of what the folds cost at a width."""
     return sum([number >> width for number in folds]) + len(folds) * (1 + width)
 
@@ -43,7 +43,7 @@ def price(folds, width):
     """The sum of what the folds cost at a width."""
     check_folds(folds)
     check_width(width)
-    return cost(folds, width)
+    return cost_at(folds, width)
 
 
 def bit_counts(folds):
@@ -63,7 +63,7 @@ def parting_width(one, other):
     check_folds(other)
     # Once all bits are gone, the price tells the number of the folds alone.
     for width in range(longest_bits(one + other) + 1):
-        if cost(one, width) != cost(other, width):
+        if cost_at(one, width) != cost_at(other, width):
             return width
     return None
 
@@ -87,6 +87,11 @@ def how_many_like(folds):
 def least_width(folds):
     """The least price of all widths, and the least and the greatest width that has it."""
     check_folds(folds)
+    return best_widths(folds)
+
+
+def best_widths(folds):
+    """What `least_width` tells of folds that are looked at already."""
     if folds == []:
         return (0, 0, None)
     first = 0
@@ -95,7 +100,7 @@ def least_width(folds):
     last = first
     while rise(folds, last) == 0:
         last += 1
-    return (cost(folds, first), first, last)
+    return (cost_at(folds, first), first, last)
 
 
 def rise(folds, width):

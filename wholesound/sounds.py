@@ -1,6 +1,7 @@
 """Samples, sounds, and numbers told by bits."""
 
 from wholesound.arguments import check_count, check_depth, check_number, check_within, is_bits
+from wholesound.bitrows import bits_of, number_of
 from wholesound.errors import InvalidBits, InvalidList, InvalidNumber, InvalidRow, InvalidSound, Unlike
 from wholesound.samples import is_samples, wrapped
 
@@ -95,14 +96,11 @@ def number_bits(number, many):
     check_within(many, 0, MOST_BITS)
     if number >> many:
         raise InvalidNumber(number)
-    return "".join(["1" if number >> at & 1 else "0" for at in reversed(range(many))])
+    return bits_of(number, many)
 
 
 def bits_number(bits):
     """The number that at most 64 bits tell, 0 for none."""
     if not is_bits(bits) or len(bits) > MOST_BITS:
         raise InvalidBits(bits)
-    number = 0
-    for sign in bits:
-        number = 2 * number + (1 if sign == "1" else 0)
-    return number
+    return number_of(bits)

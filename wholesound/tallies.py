@@ -5,6 +5,8 @@ from math import comb
 
 def lists_with_sum(many, below, total):
     """How many lists of so many counts below a bound add up to a total."""
+    if many == 0 or not 0 <= total <= many * (below - 1):
+        return 1 if many == 0 and total == 0 else 0
     found = 0
     for over in range(min([many, total // below]) + 1):
         # Lists in which so many counts chosen ahead are not below the bound, taken off and put back by turns.
