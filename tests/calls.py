@@ -5,8 +5,8 @@ tells something else (an item of the value).
 """
 
 from wholesound import errors as e
-from wholesound import allsounds, checks, ever, guessers, healing, lifts, mending, mixers, mixing, settings, shares
-from wholesound import sounds, stretches, weights
+from wholesound import allsounds, carriers, checks, ever, guessers, healing, lifts, marks, mending, mixers, mixing
+from wholesound import orders, plans, settings, shares, sounds, streams, stretches, weights
 from wholesound.checks import Check
 from wholesound.guessers import Guesser, steps
 from wholesound.mixers import Mixer
@@ -407,6 +407,129 @@ def settings_calls():
     ]
 
 
+SIDE = Settings([2, 4], [Mixer(2, []), Mixer(2, [("lift", 1, [-1, 0], 0)])], [steps(1), steps(2)], 1)
+PAIR = Sound(4, [[3, 3, 5, 6], [2, 2, 7, 7]])
+FAR = Settings([2, 4], [Mixer(2, []), Mixer(2, [("lift", 0, [0, 2 ** 15], 0)])], [], 0)
+UNLIKE = (e.Unlike, [Sound(4, [[1, 2]]), Sound(4, [[1]] * 3), Sound(4, [[]])])
+
+
+def pair_plan():
+    return [(2, 1, [("still",), ("guessed", 1, 0, [1])]), (2, 0, [("guessed", 0, 0, [1, 0]), ("still",)])]
+
+
+def no_plans():
+    """What is no plan that fits the pair."""
+    good = pair_plan()
+    bad = [good[:1], good[1:], good + good[:1], good[::-1], good + [(1, 0, [("plain",)] * 2)], [good], tuple(good)]
+    still, plain = ("still",), ("plain",)
+    for kind in (("stil",), (), ("still", 0), ["still"], ("guessed",), ("guessed", 2, 0, [1]), ("guessed", 0, 1, [1]),
+                 ("guessed", 0, 4, [0]), ("guessed", -1, 0, [1]), ("guessed", 0, -1, [1]), ("guessed", 0, 0, [5]),
+                 ("guessed", 0, 0, []), ("guessed", 0, 0, [1, 1, 1]), ("guessed", 0, 0, [1] * 4), ("guessed", 0, 0, (1,)),
+                 ("guessed", 0, 0, [-1]), ("guessed", True, 0, [1]), ("guessed", 0, False, [1]), ("guessed", 0, 0, [True]),
+                 ("guessed", 0, 0, [1], 0), ("guessed", 0, 0, None), (None,), None, "still", ("plain", 1), (still,)):
+        bad += [[(4, 0, [kind, plain])], [(4, 0, [plain, kind])]]
+    for block in ((0, 0, [plain, plain]), (-4, 0, [plain, plain]), (4, 2, [plain, plain]), (4, -1, [plain, plain]),
+                  (4, 0, [plain]), (4, 0, [plain] * 3), (4, 0, (plain, plain)), (True, 0, [plain, plain]),
+                  (4, False, [plain, plain]), (4, 0, [plain, plain], 0), (4, 0), [4, 0, [plain, plain]], (4, 0, None),
+                  (None, 0, [plain, plain]), (4, None, [plain, plain]), None, (), 4, (4096, 0, [plain, plain]),
+                  (4, 0, [still, plain]), (4, 0, [plain, still])):
+        bad.append([block])
+    return no_objects(list) + [[1], [None], [[]], []] + bad
+
+
+def stream_calls():
+    bits = streams.write(SIDE, PAIR, pair_plan())
+    good = {"settings": SIDE, "sound": PAIR}
+    first = {"settings": SETTINGS, "sound": SOUND}
+    unlike = {"settings": SETTINGS, "sound": UNLIKE}
+    plan = (e.InvalidPlan, no_plans())
+    blocks = (e.InvalidPlan, [plan[0] for plan in no_plans() if isinstance(plan, list) and len(plan) == 1])
+    wrong = (e.InvalidStream, no_bits() + ["", bits[:-1], bits + "0", "1" + bits[1:], bits[:27], bits[1:], bits[:80] + bits])
+    told = {"settings": SETTINGS, "bits": BITS}
+    block = (4, 1, [("guessed", 0, 0, [2]), ("plain",)])
+    calls = []
+    for way in (first, unlike):
+        calls += [
+            Call(streams.fits, lambda: dict(good, plan=pair_plan()), **way),
+            Call(streams.write, lambda: dict(good, plan=pair_plan()), plan=plan, **way),
+            Call(streams.sizes, lambda: dict(good, plan=pair_plan()), plan=plan, **way),
+            Call(streams.block_bits, lambda: dict(good, first=7, block=block), first=number(0, 4091), block=blocks, **way),
+        ]
+    for function in (streams.rows_of, streams.read):
+        calls.append(Call(function, lambda: {"settings": SIDE, "bits": bits}, settings=SETTINGS, bits=wrong))
+    for function in (streams.mended, streams.wrong_at, streams.begun):
+        calls.append(Call(function, lambda: {"settings": SIDE, "bits": bits[:-1]}, **told))
+        calls.append(Call(function, lambda: {"settings": SIDE, "bits": bits}, **told))
+    return calls + [
+        Call(streams.block_at, lambda: {"settings": SIDE, "depth": 4, "bits": bits, "place": 27},
+             depth=depth(24), place=number(0, len(bits)), **told),
+        Call(streams.block_at, lambda: {"settings": FAR, "depth": 4, "bits": bits, "place": 27},
+             depth=(e.InvalidDepth, numbers_but(1, 17)), place=number(0, len(bits)), **told),
+        Call(streams.Reader, lambda: {"settings": SIDE}, settings=SETTINGS),
+    ]
+
+
+def plan_calls():
+    good = {"settings": SIDE, "sound": PAIR}
+    block = (4, 0, [("plain",), ("plain",)])
+    not_let = [[(1, 0, [("plain",)] * 2), (3, 0, [("plain",)] * 2)]]
+    told = plans.prices(SIDE, PAIR)
+    calls = []
+    for way in ({"settings": SETTINGS, "sound": SOUND}, {"settings": SETTINGS, "sound": UNLIKE}):
+        calls += [
+            Call(plans.least_block, lambda: dict(good, place=1, length=3), place=number(0, 3), length=number(1, 3), **way),
+            Call(plans.least_plan, lambda: dict(good), **way),
+            Call(plans.prices, lambda: dict(good), **way),
+            Call(plans.is_prices, lambda: dict(good, value=list(told)), **way),
+            Call(plans.spare, lambda: dict(good, plan=[block]), plan=(e.InvalidPlan, no_plans()), **way),
+            Call(orders.how_many_plans, lambda: dict(good, size=200),
+                 size=(e.InvalidNumber, [value for value in numbers_but(0, 2000) if value is not None]), **way),
+            Call(orders.how_many_plans, lambda: dict(good, size=None),
+                 size=(e.InvalidNumber, [value for value in numbers_but(0, 2000) if value is not None]), **way),
+            Call(orders.plan_at, lambda: dict(good, number=11),
+                 number=number(0, orders.how_many_plans(SIDE, PAIR, None) - 1), **way),
+            Call(orders.plan_number, lambda: dict(good, plan=[block]), plan=(e.InvalidPlan, no_plans() + not_let), **way),
+        ]
+    return calls
+
+
+def no_marks():
+    return no_bits() + ["", "0", "1", "1" * 17, "01" * 10]
+
+
+def mark_calls():
+    mark = (e.InvalidMark, no_marks())
+    keepable = (e.InvalidMark, no_marks() + ["10", "01", "110", "001", "1" * 15 + "0"])
+    carrier = (e.InvalidMark, keepable[1] + ["11", "101", "1011011", "0" * 16])
+    rows = (e.InvalidPieces, no_objects(list) + [[row] for row in no_bits()] + [["0", "1", 1], ["", ["0"]], [("0",)]])
+    both = carriers.carried("100", ["1010", ""])
+    none = no_bits() + ["", "10", "100" + "10" + "100", "0" + both, both + "0", "1" + both, "1001001", both[:-1]]
+    two = {"one": "1011", "other": "1100"}
+    calls = [
+        Call(marks.how_many_free, lambda: {"many": 6}, many=number(2, 1000)),
+        Call(marks.rows_without, lambda: {"mark": "1011", "many": 9}, mark=mark, many=number(0, 1000)),
+        Call(carriers.bare, lambda: {"mark": "100", "bits": "101101"},
+             mark=keepable, bits=(e.InvalidBits, no_bits() + ["10", "100", "1100", "010", "1011010", "0100101"])),
+        Call(carriers.most_growth, lambda: {"mark": "100", "many": 9}, mark=keepable, many=number(0, 10 ** 18)),
+        Call(carriers.most_row, lambda: {"mark": "100", "many": 9}, mark=keepable, many=number(0, 4000)),
+        Call(carriers.growths, lambda: {"mark": "100", "many": 9}, mark=keepable, many=number(0, 60)),
+        Call(carriers.sum_growth, lambda: {"mark": "100", "many": 9}, mark=keepable, many=number(0, 300)),
+        Call(carriers.carried, lambda: {"mark": "100", "rows": ["1010", ""]}, mark=carrier, rows=rows),
+        Call(carriers.pieces, lambda: {"mark": "100", "bits": both}, mark=carrier, bits=BITS),
+        Call(carriers.uncarried, lambda: {"mark": "100", "bits": both}, mark=carrier, bits=(e.InvalidBits, none)),
+    ]
+    for function in (marks.borders, marks.is_free, marks.is_keepable):
+        calls.append(Call(function, lambda: {"mark": "1011011"}, mark=mark))
+    for function in (marks.same_marks, marks.parting_length):
+        calls.append(Call(function, lambda: dict(two), one=mark, other=mark))
+    for function in (carriers.stuffed, carriers.growth):
+        calls.append(Call(function, lambda: {"mark": "100", "bits": "1010"}, mark=keepable, bits=BITS))
+    for function in (carriers.same_growths, carriers.parting_growth):
+        calls.append(Call(function, lambda: dict(two, one="1011", other="1100"), one=keepable, other=keepable))
+    return calls
+
+
 def all_calls():
     return (sound_calls() + guesser_calls() + healing_calls() + ever_calls() + mixer_calls() + share_calls()
-            + stretch_calls() + allsound_calls() + check_calls() + mending_calls() + settings_calls())
+            + stretch_calls() + allsound_calls() + check_calls() + mending_calls() + settings_calls()
+            + stream_calls() + plan_calls() + mark_calls())

@@ -79,6 +79,28 @@ MODULES = {
         "together": "one other", "shared": "one other", "bits_with": "one other left right",
     },
     "settings": {"Settings": "lengths mixers guessers parts", "wide": "settings depth"},
+    "streams": {
+        "fits": "settings sound plan", "write": "settings sound plan", "sizes": "settings sound plan",
+        "rows_of": "settings bits", "read": "settings bits", "mended": "settings bits", "wrong_at": "settings bits",
+        "begun": "settings bits", "block_bits": "settings sound first block", "block_at": "settings depth bits place",
+        "Reader": "settings",
+    },
+    "plans": {
+        "least_block": "settings sound place length", "least_plan": "settings sound", "prices": "settings sound",
+        "is_prices": "settings sound value", "spare": "settings sound plan",
+    },
+    "orders": {
+        "how_many_plans": "settings sound size", "plan_at": "settings sound number", "plan_number": "settings sound plan",
+    },
+    "marks": {
+        "borders": "mark", "is_free": "mark", "is_keepable": "mark", "how_many_free": "many", "rows_without": "mark many",
+        "same_marks": "one other", "parting_length": "one other",
+    },
+    "carriers": {
+        "stuffed": "mark bits", "bare": "mark bits", "growth": "mark bits", "most_growth": "mark many",
+        "most_row": "mark many", "growths": "mark many", "sum_growth": "mark many", "same_growths": "one other",
+        "parting_growth": "one other", "carried": "mark rows", "pieces": "mark bits", "uncarried": "mark bits",
+    },
 }
 
 CLASSES = {
@@ -89,6 +111,7 @@ CLASSES = {
     ("settings", "Settings"): {
         "lengths": "", "mixers": "", "guessers": "", "parts": "", "ways": "", "__eq__": "other",
     },
+    ("streams", "Reader"): {"feed": "bits", "place": "", "many": "", "wrong": "", "done": ""},
 }
 
 

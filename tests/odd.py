@@ -5,8 +5,9 @@ from wholesound.guessers import Guesser
 from wholesound.mixers import Mixer
 from wholesound.settings import Settings
 from wholesound.sounds import Sound
+from wholesound.streams import Reader
 
-OWN = (Sound, Guesser, Mixer, Check, Settings)
+OWN = (Sound, Guesser, Mixer, Check, Settings, Reader)
 
 
 def deep(levels):
@@ -66,6 +67,8 @@ def frozen(value):
     if isinstance(value, Settings):
         parts = [value.lengths(), value.mixers(), value.guessers(), value.parts()]
         return ("Settings",) + tuple(frozen(part) for part in parts)
+    if isinstance(value, Reader):
+        return ("Reader", value.place(), value.many(), value.wrong(), value.done())
     if isinstance(value, (list, tuple)):
         return (type(value).__name__,) + tuple(frozen(item) for item in value)
     if isinstance(value, dict):

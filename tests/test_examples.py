@@ -95,6 +95,57 @@ three = Check(3, 3)
 # [[[4]], [[4], [0, 5], [1, 2], [3, 6]], 7, (15, 128)]
 [together(Check(1, 1), three) == Check(4, 13), bits_with(Check(1, 1), three, 1, 0), bits_with(Check(4, 13), three, 1, 0)]
 # [True, '1011', None]
+
+from wholesound.guessers import steps
+from wholesound.mixers import Mixer
+from wholesound.settings import Settings, wide
+from wholesound.sounds import Sound
+from wholesound.streams import Reader, begun, block_at, fits, mended, read, sizes, write, wrong_at
+settings = Settings([2, 4], [Mixer(1, [])], [steps(1)], 1)
+sound = Sound(4, [[3, 3, 5, 6]])
+plan = [(2, 0, [("still",)]), (2, 0, [("guessed", 0, 0, [1])])]
+bits = write(settings, sound, plan)
+[wide(settings, 4), sizes(settings, sound, plan), len(bits), bits[:27]]
+# [[[4]], [27, 73, 94], 194, '000110000000000010001010111']
+[bits[27:54], bits[54:78], bits[78:84], bits[84:100]]
+# ['000000000000000000000010000', '000000000100100111111110', '000110', '1010000011101111']
+[bits[100:127], bits[127:143], bits[151:178]]
+# ['000000000010000000000010000', '0000000001011110', '100000000000000011111100100']
+[read(settings, bits) == (sound, plan), begun(settings, bits[:110])[1:], block_at(settings, 4, bits, 27)[3], wrong_at(settings, bits), wrong_at(settings, "1" + bits[1:]), wrong_at(settings, bits + "0")]
+# [True, ([(2, 0, [('still',)])], 100), 100, None, 27, 195]
+[mended(settings, bits[:80] + "1" + bits[81:]) == bits, mended(settings, bits) == bits, mended(settings, bits[:100])]
+# [True, True, None]
+reader = Reader(settings)
+[reader.feed(bits[:110]), reader.place(), reader.feed(bits[110:]), reader.done()]
+# [[[3, 3]], 100, [[5, 6]], True]
+[fits(settings, sound, [(4, 0, [("still",)])]), fits(settings, sound, [(3, 0, [("plain",)]), (1, 0, [("still",)])])]
+# [False, True]
+
+from wholesound.guessers import steps
+from wholesound.mixers import Mixer
+from wholesound.orders import how_many_plans, plan_at, plan_number
+from wholesound.plans import is_prices, least_block, least_plan, prices, spare
+from wholesound.settings import Settings
+from wholesound.sounds import Sound
+settings, sound = Settings([2, 4], [Mixer(1, [])], [steps(1)], 0), Sound(4, [[3, 3, 5, 6]])
+[least_block(settings, sound, 0, 2), least_block(settings, sound, 2, 2), least_block(settings, sound, 0, 4)]
+# [(73, (2, 0, [('still',)])), (77, (2, 0, [('plain',)])), (85, (4, 0, [('plain',)]))]
+[least_plan(settings, sound), prices(settings, sound), is_prices(settings, sound, [27, None, 100, None, 112]), is_prices(settings, sound, [27, None, 101, None, 112])]
+# [(112, [(4, 0, [('plain',)])]), [27, None, 100, None, 112], True, False]
+[how_many_plans(settings, sound, None), how_many_plans(settings, sound, 112), plan_at(settings, sound, 0), plan_number(settings, sound, [(4, 0, [("plain",)])]), spare(settings, sound, [(1, 0, [("plain",)]), (3, 0, [("plain",)])])]
+# [48, 1, [(2, 0, [('still',)]), (2, 0, [('plain',)])], 42, 69]
+
+from wholesound.carriers import bare, carried, growth, growths, most_growth, parting_growth, pieces, stuffed
+from wholesound.marks import borders, how_many_free, is_keepable, parting_length, rows_without
+[borders("1011011"), is_keepable("100"), is_keepable("110"), [how_many_free(many) for many in range(2, 7)]]
+# [[1, 4], True, False, [2, 4, 6, 12, 20]]
+[[rows_without("11", many) for many in range(5)], [rows_without("10", many) for many in range(5)], parting_length("11", "10"), parting_length("101", "010")]
+# [[1, 2, 3, 5, 8], [1, 2, 3, 4, 5], 3, None]
+[stuffed("100", "1010"), stuffed("100", "1000"), bare("100", "101101"), growth("011", "0011"), most_growth("101100111000", 31), growths("100", 3), parting_growth("100", "1000")]
+# ['101101', '1010101', '1010', 2, 3, [4, 3, 1], 2]
+both = carried("100", ["1010", ""])
+[both, pieces("100", both), pieces("100", both[:10] + "1" + both[11:])]
+# ['100101101100100', [(3, '1010'), (12, '')], [(3, None)]]
 '''
 
 

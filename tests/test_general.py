@@ -66,7 +66,7 @@ class Refusals(unittest.TestCase):
     def test_each_argument_but_a_judged_value_has_wrong_ones_in_the_table(self):
         for call in all_calls():
             left = [name for name in call.good() if name not in call.wrong]
-            self.assertIn(left, ([], ["value"]), call.name())
+            self.assertIn(left, ([], ["value"], ["plan"]), call.name())
 
 
 class Calls(unittest.TestCase):
@@ -137,7 +137,8 @@ class Calls(unittest.TestCase):
     def test_whether_is_told_by_true_or_false(self):
         names = ["same_guess", "same_rests", "tells", "is_best_weight", "is_told", "is_shortest", "is_next_paper",
                  "is_shortest_whole", "same_mix", "same_within", "commute", "same_prices", "is_cuts_paper", "never_pays",
-                 "is_right", "unseen", "all_odd", "is_fill", "also_right"]
+                 "is_right", "unseen", "all_odd", "is_fill", "also_right", "fits", "is_prices", "is_free", "is_keepable",
+                 "same_marks", "same_growths"]
         for call in all_calls():
             if call.function.__name__ in names:
                 self.assertIs(type(call.function(**call.good())), bool, call.name())

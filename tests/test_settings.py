@@ -6,7 +6,8 @@ from wholesound.errors import Unlike
 from wholesound.guessers import Guesser, steps
 from wholesound.mixers import Mixer, mixed
 from wholesound.mixing import enough
-from wholesound.settings import Settings, check_suiting, reach, wide
+from wholesound.blocks import Bench, bench_for
+from wholesound.settings import Settings, wide
 from wholesound.sounds import Sound
 
 SIDE = Mixer(2, [("lift", 1, [-1, 0], 0), ("lift", 0, [0, 1], 1)])
@@ -67,17 +68,17 @@ class Wide(unittest.TestCase):
         settings = Settings([1], [PLAIN, far], [], 0)
         for depth in range(1, 25):
             most = max(max(bits) for bits in wide(settings, depth))
-            self.assertIs(reach(settings, depth), most <= 32)
-        told = [depth for depth in range(1, 25) if reach(settings, depth)]
+            self.assertIs(Bench(settings, depth).reached(), most <= 32)
+        told = [depth for depth in range(1, 25) if Bench(settings, depth).reached()]
         self.assertEqual(told, list(range(1, told[-1] + 1)))
         self.assertEqual(max(wide(settings, told[-1])[1]), 32)
 
     def test_sounds_that_suit(self):
         far = Settings([1], [PLAIN, Mixer(2, [("lift", 0, [0, 2 ** 14], 0)])], [], 0)
-        check_suiting(far, Sound(17, [[], []]))
+        bench_for(far, Sound(17, [[], []]))
         for sound in (Sound(18, [[], []]), Sound(24, [[1], [1]]), Sound(4, [[1]]), Sound(4, [[1]] * 3)):
             with self.assertRaises(Unlike) as caught:
-                check_suiting(far, sound)
+                bench_for(far, sound)
             self.assertIs(caught.exception.value, sound)
 
 

@@ -4,8 +4,8 @@ from wholesound.arguments import check_count, check_depth, check_within, is_with
 from wholesound.errors import InvalidNumber, InvalidRow, InvalidWidth
 from wholesound.guessers import check_guesser, rests, row_of
 from wholesound.quotients import fraction
-from wholesound.samples import is_samples
-from wholesound.sounds import GREATEST_DEPTH, fold, unfold
+from wholesound.samples import folded, is_samples, unfolded
+from wholesound.sounds import GREATEST_DEPTH
 from wholesound.tallies import lists_with_sum
 
 MOST_SAMPLES = 200
@@ -71,7 +71,7 @@ def row_at(guesser, depth, width, many, size, number):
     if number >= rows_of_size(depth, width, many, size):
         raise InvalidNumber(number)
     folds = folds_at(depth, width, many, size, number)
-    return row_of(guesser, depth, [unfold(one) for one in folds])
+    return row_of(guesser, depth, [unfolded(one) for one in folds])
 
 
 def folds_at(depth, width, many, size, number):
@@ -98,7 +98,7 @@ def number_of(guesser, depth, width, row):
     check_told_at(depth, width)
     if not is_samples(row, depth) or len(row) > MOST_SAMPLES:
         raise InvalidRow(row)
-    folds = [fold(rest) for rest in rests(guesser, depth, row)]
+    folds = [folded(rest) for rest in rests(guesser, depth, row)]
     signs = sum([number >> width for number in folds])
     return (signs + len(folds) * (1 + width), number_of_folds(depth, width, folds, signs))
 

@@ -24,9 +24,9 @@ def fold_bits(number, width):
     return "1" * (number >> width) + "0" + bits_of(number & ((1 << width) - 1), width)
 
 
-def folds_read(bits, width, most):
-    """The first folds that bits tell at a width, at most so many, and the places behind each of them."""
-    folds, ends, place = [], [], 0
+def folds_read(bits, place, width, most):
+    """The first folds that bits tell at a width from a place on, at most so many, and the places behind each."""
+    folds, ends = [], []
     while len(folds) < most:
         nought = bits.find("0", place)
         end = nought + 1 + width

@@ -46,3 +46,13 @@ def sign_bits(number):
     """The least depth of which a number is a sample."""
     without_sign = number if number >= 0 else -number - 1
     return without_sign.bit_length() + 1
+
+
+def folded(number):
+    """The count that stands for a whole number: even ones for those from 0 on, odd ones below 0."""
+    return 2 * number if number >= 0 else -2 * number - 1
+
+
+def unfolded(number):
+    """The whole number of which a count is the fold."""
+    return -(number + 1) // 2 if number & 1 else number // 2

@@ -1,17 +1,16 @@
 """What a writer may choose from: lengths of blocks, mixers, guessers, and how often a row is cut."""
 
 from wholesound.arguments import check_depth, check_within, is_within
-from wholesound.errors import InvalidGuesser, InvalidList, InvalidMixer, InvalidSettings, Unlike
+from wholesound.errors import InvalidGuesser, InvalidList, InvalidMixer, InvalidSettings
 from wholesound.guessers import Guesser
 from wholesound.mixers import Mixer
 from wholesound.mixing import enough
-from wholesound.sounds import GREATEST_DEPTH, MOST_SAMPLES, check_sound
+from wholesound.sounds import GREATEST_DEPTH, MOST_SAMPLES
 
 MOST_LENGTHS = 6
 MOST_MIXERS = 8
 MOST_GUESSERS = 16
 MOST_PARTS = 4
-GREATEST_WIDE = 32
 
 
 class Settings:
@@ -99,16 +98,3 @@ def wide(settings, depth):
 def wide_of(settings, depth):
     """What `wide` tells of settings and a depth that are looked at already."""
     return [enough(mixer, depth) for mixer in settings.mixers()]
-
-
-def reach(settings, depth):
-    """Whether settings reach a depth."""
-    return max([max(bits) for bits in wide_of(settings, depth)]) <= GREATEST_WIDE
-
-
-def check_suiting(settings, sound):
-    """Refuse what are no settings, no sound, or a sound that does not suit them."""
-    check_settings(settings)
-    check_sound(sound)
-    if len(sound.ways()) != settings.ways() or not reach(settings, sound.depth()):
-        raise Unlike(sound)

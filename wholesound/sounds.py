@@ -3,7 +3,7 @@
 from wholesound.arguments import check_count, check_depth, check_number, check_within, is_bits
 from wholesound.bitrows import bits_of, number_of
 from wholesound.errors import InvalidBits, InvalidList, InvalidNumber, InvalidRow, InvalidSound, Unlike
-from wholesound.samples import is_samples, wrapped
+from wholesound.samples import folded, is_samples, unfolded, wrapped
 
 GREATEST_WRAP = 40
 GREATEST_DEPTH = 24
@@ -22,13 +22,13 @@ def wrap(number, depth):
 def fold(number):
     """The count that stands for a whole number: even ones for those from 0 on, odd ones below 0."""
     check_number(number)
-    return 2 * number if number >= 0 else -2 * number - 1
+    return folded(number)
 
 
 def unfold(number):
     """The whole number of which a count is the fold."""
     check_count(number)
-    return -(number + 1) // 2 if number & 1 else number // 2
+    return unfolded(number)
 
 
 class Sound:

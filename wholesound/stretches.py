@@ -22,7 +22,7 @@ def read_folds(bits, width, many):
     check_bits(bits)
     check_width(width)
     check_count(many)
-    folds, ends = folds_read(bits, width, many)
+    folds, ends = folds_read(bits, 0, width, many)
     if len(folds) < many:
         return None
     return (folds, bits[last_end(ends):])
@@ -39,7 +39,7 @@ def readings(bits, most):
     check_width(most)
     found = []
     for width in range(most + 1):
-        folds, ends = folds_read(bits, width, len(bits))
+        folds, ends = folds_read(bits, 0, width, len(bits))
         if last_end(ends) == len(bits):
             found.append((width, folds))
     return found
@@ -50,7 +50,7 @@ def both_read(one, other):
     check_width(one)
     check_width(other)
     bits = shortest_of_both(one, other)
-    return (bits, folds_read(bits, one, len(bits))[0], folds_read(bits, other, len(bits))[0])
+    return (bits, folds_read(bits, 0, one, len(bits))[0], folds_read(bits, 0, other, len(bits))[0])
 
 
 def state_behind(state, sign, width):
@@ -88,8 +88,8 @@ def turned_reading(folds, width, at):
     check_within(at, 0, cost_at(folds, width) - 1)
     bits = all_bits(folds, width)
     turned = turned_at(bits, at)
-    ends = {end: True for end in folds_read(bits, width, len(bits))[1]}
-    read, others = folds_read(turned, width, len(turned))
+    ends = {end: True for end in folds_read(bits, 0, width, len(bits))[1]}
+    read, others = folds_read(turned, 0, width, len(turned))
     both = [end for end in others if end > at and end in ends]
     return (read, turned[last_end(others):], both[0] if both else None)
 
