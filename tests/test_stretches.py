@@ -300,6 +300,18 @@ class Cuts(unittest.TestCase):
         for value in odd:
             self.assertIs(is_cuts_paper(folds, 1, 2, None, value), False, value)
 
+    def test_stretches_that_are_too_short_are_no_cuts(self):
+        self.assertTrue(is_cuts_paper([0, 0], 2, 0, None, (2, [(2, 0)], [0, 0, 2])))
+        self.assertFalse(is_cuts_paper([0, 0], 2, 0, None, (2, [(1, 0), (1, 0)], [0, 0, 2])))
+        self.assertFalse(is_cuts_paper([0, 0], 1, 0, None, (2, [(2, 0), (0, 0)], [0, 1, 2])))
+
+    def test_a_boolean_is_no_total(self):
+        self.assertTrue(is_cuts_paper([0], 1, 0, None, (1, [(1, 0)], [0, 1])))
+        self.assertFalse(is_cuts_paper([0], 1, 0, None, (True, [(1, 0)], [0, 1])))
+        self.assertFalse(is_cuts_paper([0], 1, 0, None, (1, [(True, 0)], [0, 1])))
+        self.assertFalse(is_cuts_paper([0], 1, 0, None, (1, [(1, False)], [0, 1])))
+        self.assertFalse(is_cuts_paper([0], 1, 0, None, (1, [(1, 0)], [False, True])))
+
     def test_prices_that_rise_too_much_are_no_paper(self):
         # One stretch is dearer than two, and the numbers say that it is not.
         folds = [0, 0, 100, 100]
