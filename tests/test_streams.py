@@ -188,6 +188,14 @@ class Written(unittest.TestCase):
                 with self.assertRaises(InvalidPlan):
                     write(settings, sound, plan)
 
+    def test_the_greatest_blocks_and_numbers_are_read(self):
+        settings = Settings([1], [Mixer(1, [])], [steps(0)], 0)
+        for fold in (65535 - 67 - 17 - 1, 32768):
+            sample = fold // 2 if fold % 2 == 0 else -(fold + 1) // 2
+            self.check(settings, Sound(24, [[sample]]), [(1, 0, [("guessed", 0, 0, [0])])])
+        self.check(settings, Sound(24, [[5] * 4095]), [(4095, 0, [("still",)])])
+        self.check(settings, Sound(24, [[5] * 4095]), [(2048, 0, [("still",)]), (2046, 0, [("still",)]), (1, 0, [("plain",)])])
+
     def test_great_prices_are_no_burden(self):
         sound = Sound(24, [[-2 ** 23] * 4095])
         settings = Settings([1], [Mixer(1, [])], [steps(0)], 4)
@@ -251,6 +259,13 @@ class Read(unittest.TestCase):
             self.assertEqual(begun(ONE, bits)[1:], ([], 27))
             self.assertFalse(is_stream(ONE, bits))
             self.assertIsNone(mended(ONE, bits))
+        # Samples that are told twice or left out, though they end within the sound.
+        long = Sound(4, [[3, 3, 3, 3]])
+        two = block_bits(ONE, sound, 0, (2, 0, [("still",)]))
+        for first, goes in ((0, False), (1, False), (2, True), (3, False)):
+            bits = head_word(long) + two + block_word(ONE, sound, 0, (2, 0, [("still",)]), first)
+            self.assertEqual(wrong_at(ONE, bits), None if goes else 27 + len(two) + 51)
+            self.assertIs(is_stream(ONE, bits), goes)
         # The opening stands, but what follows does not fill it, or is not all there.
         for size, at in ((67, 94), (72, 99), (74, None), (65535, None)):
             bits = self.block(sound, ways, size=size)
@@ -281,6 +296,11 @@ class Read(unittest.TestCase):
         lean = "10" + "0000" + "000" + "000" + "00000"
         self.assertTrue(is_stream(ONE, self.block(sound, lean + "1" * 15 + "0" + "0")))
         self.assertFalse(is_stream(ONE, self.block(sound, lean + "1" * 16 + "0" + "0")))
+        # Behind a division by 4 they have two bits.
+        lean = "10" + "0000" + "010" + "000" + "00000"
+        self.assertTrue(is_stream(ONE, self.block(sound, lean + "1" * 3 + "0" + "0")))
+        for fold in (4, 15, 16, 63):
+            self.assertFalse(is_stream(ONE, self.block(sound, lean + "1" * fold + "0" + "0")))
 
     def test_samples_that_are_not_of_the_depth(self):
         # Behind this mixer ways have more bits than the samples: not all that they can tell comes from some.

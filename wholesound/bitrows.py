@@ -2,7 +2,7 @@
 
 
 def bits_of(number, many):
-    """The bits, so many, of a count that has no more, the highest one first."""
+    """The lowest bits of a count, so many, the highest one first."""
     return "".join(["1" if number >> at & 1 else "0" for at in reversed(range(many))])
 
 
@@ -21,7 +21,7 @@ def turned_at(bits, at):
 
 def fold_bits(number, width):
     """The bits of a fold at a width: as many ones as it is worth there, a nought, and its low bits."""
-    return "1" * (number >> width) + "0" + bits_of(number & ((1 << width) - 1), width)
+    return "1" * (number >> width) + "0" + bits_of(number, width)
 
 
 def folds_read(bits, place, width, most):

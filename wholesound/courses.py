@@ -83,8 +83,6 @@ def plain_read(kind, wide, length, many, bits):
 
 def guessed_read(bench, wide, length, bits):
     """A way that tells its rests, or None."""
-    if len(bits) < 12:
-        return None
     at, low, parts = number_of(bits[2:6]), number_of(bits[6:9]), 1 << number_of(bits[9:12])
     if at >= len(bench.all_guessers()) or low > greatest_low(wide) or parts not in possible_parts(bench, length):
         return None
@@ -155,12 +153,8 @@ class Course:
         return self._wrong
 
     def is_told(self):
-        """Whether all samples are told and nothing is wrong."""
+        """Whether all samples are told and nothing is wrong: so all bits so far are a stream."""
         return self._bench is not None and self.many() == self._wanted and self._wrong is None
-
-    def is_whole(self):
-        """Whether all bits so far are a stream."""
-        return self.is_told() and self._left == ""
 
     def take(self, bits):
         """Read more bits, as far as parts are whole."""
@@ -227,7 +221,6 @@ def with_one_turned(course, bits):
     if high is None:
         return None
     # What ends farther on than an opening does is a block, and its word is one of the opening, too.
-    in_block = course.bench() is not None and high > low + OPENING_BITS
-    check = block_check() if in_block else opening_check()
+    check = block_check() if high > low + OPENING_BITS else opening_check()
     wanted, powers = rest_of(check, bits[low:high]), first_powers(check, high - low)
     return turned_at(bits, high - 1 - powers.index(wanted)) if wanted in powers else None

@@ -34,18 +34,19 @@ def all_pairs(one, other, most):
 
 def pairs_by_product(one, other, most):
     """The same by a single product of two great numbers, which is quicker for many sizes."""
-    # No count of pairs is greater than this product, so that no slot runs over into the next one.
-    slot = (sum(list(one.values())) * sum(list(other.values()))).bit_length()
     low, high = min(list(one.keys())), min(list(other.keys()))
-    left, right = row_from(one, low), row_from(other, high)
-    many = len(left) + len(right) - 1
-    counts = unpacked(packed(left, slot) * packed(right, slot), many, slot)
+    left, right = row_from(one, low, most - high), row_from(other, high, most - low)
+    if left == [] or right == []:
+        return {}
+    # No count of pairs is greater than this product, so that no slot runs over into the next one.
+    slot = (sum(left) * sum(right)).bit_length()
+    counts = unpacked(packed(left, slot) * packed(right, slot), len(left) + len(right) - 1, slot)
     return {low + high + at: told for at, told in enumerate(counts) if told and low + high + at <= most}
 
 
-def row_from(counts, low):
-    """The counts of the sizes from the least one on, as a list."""
-    return [counts.get(size, 0) for size in range(low, max(list(counts.keys())) + 1)]
+def row_from(counts, low, most):
+    """The counts of the sizes from the least one on, up to the greatest one but no further than `most`, as a list."""
+    return [counts.get(size, 0) for size in range(low, min([max(list(counts.keys())), most]) + 1)]
 
 
 def add_all(counts, more, by, most):

@@ -44,7 +44,7 @@ def whole_course(settings, bits):
     if not is_bits(bits):
         raise InvalidStream(bits)
     course = course_of(settings, bits)
-    if not course.is_whole():
+    if not course.is_told():
         raise InvalidStream(bits)
     return course
 
@@ -71,10 +71,10 @@ def mended(settings, bits):
     check_settings(settings)
     check_bits(bits)
     course = course_of(settings, bits)
-    if course.is_whole():
+    if course.is_told():
         return bits
     turned = with_one_turned(course, bits)
-    return turned if turned is not None and course_of(settings, turned).is_whole() else None
+    return turned if turned is not None and course_of(settings, turned).is_told() else None
 
 
 def wrong_at(settings, bits):
