@@ -212,6 +212,53 @@ class Unseen(unittest.TestCase):
                     self.assertTrue(told is None or told >= few)
                 self.assertLess(distance(check, many + 1), few)
 
+    def has_few(self, powers, few):
+        """Whether fewer places than `few` have powers that sum up to 0, by all sums of pairs."""
+        pairs = [one ^ other for one, other in itertools.combinations(powers, 2)]
+        two, three = 0 in pairs, bool(set(pairs) & set(powers))
+        return two or few > 3 and three or few > 4 and len(set(pairs)) < len(pairs)
+
+    def test_longest_of_wide_checks_by_all_pairs(self):
+        drawn = Drawn(633)
+        checks = [Check(width, drawn.below(2 ** (width - 1)) * 2 + 1) for width in range(6, 17) for _ in range(4)]
+        for check in checks + [Check(16, 4107), Check(8, 29), Check(16, 4129)]:
+            for few in (4, 5):
+                many = longest(check, few)
+                powers = [power(check, place) for place in range(min(many + 1, 400))]
+                self.assertFalse(self.has_few(powers[:min(many, 400)], few))
+                if many < 400:
+                    self.assertTrue(self.has_few(powers, few))
+                for below in (many - 1, many, many + 1, 60):
+                    if 0 <= below <= 400:
+                        powers = [power(check, place) for place in range(below)]
+                        told = [size for size in (2, 3, 4) if self.has_few(powers, size + 1)]
+                        self.assertEqual(distance(check, below), told[0] if told else None)
+
+    def test_the_first_three_and_four_of_wide_checks(self):
+        drawn = Drawn(634)
+        seen = []
+        for _ in range(40):
+            width = drawn.between(6, 16)
+            check = Check(width, drawn.below(2 ** (width - 1)) * 2 + 1)
+            many = min(longest(check, 5) + drawn.between(1, 6), 60)
+            powers = [power(check, place) for place in range(many)]
+            places = {number: place for place, number in enumerate(powers)}
+            few = distance(check, many)
+            seen.append(few)
+            if few is None:
+                self.assertIsNone(least_unseen(check, many))
+            elif few > 2:
+                lists = []
+                for begun in itertools.combinations(range(many), few - 1):
+                    total = 0
+                    for place in begun:
+                        total ^= powers[place]
+                    if places.get(total, -1) > begun[-1]:
+                        lists.append(list(begun) + [places[total]])
+                        break
+                self.assertEqual(least_unseen(check, many), lists[0])
+        self.assertTrue({3, 4} <= set(seen), seen)
+
     def test_odd_numbers_of_places(self):
         for check in all_checks(5):
             lists = [places for many in (1, 3, 5) for places in itertools.combinations(range(10), many)]
@@ -295,6 +342,16 @@ class Shapes(unittest.TestCase):
             else:
                 high = middle
         return low
+
+    def test_spans_of_no_shape_and_the_greatest(self):
+        three = Check(3, 3)
+        for span in (0, 1, 2):
+            for number in (0, 1, 7):
+                with self.assertRaises(InvalidNumber) as caught:
+                    shape_at(three, span, number)
+                self.assertEqual(caught.exception.value, number)
+        for number in (0, 77, 2 ** 996 - 1):
+            self.assertEqual(shape_number(three, shape_at(three, 1000, number)), number)
 
     def test_great_spans(self):
         drawn = Drawn(640)

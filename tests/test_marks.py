@@ -293,6 +293,11 @@ class Limits(unittest.TestCase):
         mark = "0000000000000011" if is_free("0000000000000011") else "0111"
         lists = ["".join(drawn.item("01") for _ in range(drawn.below(80))) for _ in range(60)]
         self.assertEqual(uncarried(mark, carried(mark, lists)), lists)
+        for mark in ("011", "0111", "0000000000000011", "100"):
+            bits = "".join(drawn.item("01") for _ in range(4000))
+            self.assertEqual(uncarried(mark, carried(mark, [bits, "", bits])), [bits, "", bits])
+            self.assertEqual(len(pieces(mark, bits)), max(len(places_of(mark, bits)) - 1, 0))
+            pieces(mark, mark * 250)
         how_many_free(1000)
         self.assertEqual(parting_length("1" * 16, "10" * 8), 17)
         self.assertLess(time.monotonic() - begin, 15)

@@ -6,7 +6,7 @@ import unittest
 from fractions import Fraction
 
 from wholesound.errors import InvalidNumber, InvalidPlan
-from wholesound.guessers import Guesser, steps
+from wholesound.guessers import Guesser, rests, steps
 from wholesound.mixers import Mixer
 from wholesound.orders import how_many_plans, plan_at, plan_number
 from wholesound.plans import is_prices, least_block, least_plan, prices, spare
@@ -15,7 +15,7 @@ from wholesound.sounds import Sound
 from wholesound.streams import fits, sizes
 
 from tests.drawn import Drawn
-from tests.words import blocks_of, plans_of
+from tests.words import blocks_of, folded, plans_of
 
 LIFT = Mixer(2, [("lift", 1, [-1, 0], 0)])
 SETTINGS = [
@@ -92,33 +92,49 @@ class Least(unittest.TestCase):
                         first = [block for size, block in blocks if size == least][0]
                         self.assertEqual(least_block(by, sound, place, length), (least, first))
 
-    def test_lows_parts_and_widths_of_long_rows(self):
-        # Guessed rows by all kinds of one width for each part: the least is found part by part.
-        drawn = Drawn(811)
-        for _ in range(12):
-            settings = Settings([16], [Mixer(1, [])], [steps(0), steps(1)], 4)
-            low = drawn.below(4)
-            row = [drawn.between(-2 ** drawn.below(9), 2 ** drawn.below(9)) << low for _ in range(16)]
-            sound = Sound(14, [row])
-            size, block = least_block(settings, sound, 0, 16)
-            self.assertEqual(sum(sizes(settings, sound, [block])[1:]), size)
-            best = None
-            for at, by, parts in itertools.product(range(2), range(8), (1, 2, 4, 8, 16)):
-                if any(sample % 2 ** by for sample in row):
+    def least_by_words(self, settings, depth, row):
+        """The size of the least block of one way and its kind, and how many numbers of parts have it."""
+        many = len(row)
+        found = [(2 + depth, ("still",))] if len(set(row)) == 1 else []
+        found.append((2 + depth * many, ("plain",)))
+        for at, guesser in enumerate(settings.guessers()):
+            for low in range(min(8, depth)):
+                if any(sample % 2 ** low for sample in row):
                     continue
-                left = [sample >> by for sample in row]
-                left = [left[0]] + [one - other for one, other in zip(left[1:], left)] if at else left
-                folds = [2 * rest if rest >= 0 else -2 * rest - 1 for rest in left]
-                widths, cost = [], 12 + 5 * parts
-                for part in range(parts):
-                    own = folds[part * 16 // parts:(part + 1) * 16 // parts]
-                    costs = [sum(fold // 2 ** width + 1 + width for fold in own) for width in range(min(31, 14 - by) + 1)]
-                    widths.append(costs.index(min(costs)))
-                    cost += min(costs)
-                if best is None or cost < best[0]:
-                    best = (cost, ("guessed", at, by, widths))
-            if best[0] < 2 + 16 * 14 and len(set(row)) > 1:
-                self.assertEqual((size, block), (67 + best[0], (16, 0, [best[1]])))
+                left = [folded(rest) for rest in rests(guesser, depth - low, [sample // 2 ** low for sample in row])]
+                for parts in (1, 2, 4, 8, 16):
+                    if parts > 2 ** settings.parts() or many % parts:
+                        continue
+                    widths, cost = [], 12 + 5 * parts
+                    for part in range(parts):
+                        own = left[part * many // parts:(part + 1) * many // parts]
+                        costs = [sum(fold // 2 ** width + 1 + width for fold in own) for width in range(min(31, depth - low) + 1)]
+                        widths.append(costs.index(min(costs)))
+                        cost += min(costs)
+                    found.append((cost, ("guessed", at, low, widths)))
+        least = min(size for size, _ in found)
+        ways = [kind for size, kind in found if size == least]
+        return 67 + least, ways[0], ways
+
+    def test_lows_parts_and_widths_of_longer_rows(self):
+        drawn = Drawn(811)
+        ties = {}
+        for _ in range(900):
+            depth = drawn.between(2, 20)
+            settings = Settings([16], [Mixer(1, [])], [steps(0), steps(1), Guesser([3, -1], 1)][:drawn.below(4)], drawn.below(5))
+            low, high = drawn.below(depth), drawn.between(1, depth)
+            many = drawn.item([1, 2, 4, 6, 8, 16])
+            row = [drawn.samples(1, drawn.item([high, max(1, high - 3), depth]))[0] >> low << low for _ in range(many)]
+            row = [0] * many if drawn.below(9) == 0 else row
+            size, kind, ways = self.least_by_words(settings, depth, row)
+            self.assertEqual(least_block(settings, Sound(depth, [row]), 0, many), (size, (many, 0, [kind])))
+            for other in ways[1:]:
+                if kind[0] == other[0] == "guessed":
+                    ties["guesser" if kind[1] != other[1] else "low" if kind[2] != other[2] else "parts"] = True
+                else:
+                    ties[kind[0] + other[0]] = True
+        # Among these there are ties of all sorts, so that the first one of them has to be told.
+        self.assertEqual(sorted(ties), ["guesser", "low", "parts", "plainguessed", "stillguessed", "stillplain"])
 
     def test_no_samples(self):
         for settings in SETTINGS:

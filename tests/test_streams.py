@@ -150,6 +150,20 @@ class Written(unittest.TestCase):
                     plan = [(3, 0, [("guessed", 0, low, [width])])]
                     self.assertIs(fits(settings, sound, plan), goes and 0 <= width <= min(31, depth - low))
 
+    def test_lows_of_noughts(self):
+        # Noughts are divided by all powers of 2, but no low is above 7.
+        settings = Settings([4], [Mixer(1, [])], [steps(1)], 0)
+        for depth in (1, 2, 7, 8, 9, 24):
+            for low in range(-1, 12):
+                self.assertIs(fits(settings, Sound(depth, [[0]]), [(1, 0, [("guessed", 0, low, [0])])]), 0 <= low <= min(7, depth - 1))
+
+    def test_blocks_of_no_samples_do_not_fit(self):
+        sound = Sound(4, [[3, 3]])
+        whole, none = (2, 0, [("plain",)]), (0, 0, [("plain",)])
+        for plan in ([none, whole], [whole, none], [none], [(3, 0, [("plain",)]), (-1, 0, [("plain",)])]):
+            self.assertFalse(fits(ONE, sound, plan))
+        self.assertFalse(fits(ONE, Sound(4, [[]]), [none]))
+
     def test_the_greatest_width(self):
         # Behind this mixer a way has 32 bits: a width may be 31 and no more.
         settings = Settings([1], [Mixer(2, [("lift", 0, [0, 2 ** 14], 0)])], [steps(0)], 0)
@@ -469,6 +483,14 @@ class Blocks(unittest.TestCase):
             told = number_word(0, 12) + number_word(length, 12) + "000" + number_word(67 + len(ways), 16)
             bits = sealed_by(sealed_by(told, 8, 29) + ways, 16, 4107)
             self.assertEqual(block_at(ONE, 2, bits, 0) is None, length == 0)
+
+    def test_blocks_that_are_not_all_there(self):
+        # The word is right for what is there, but the opening tells of more bits.
+        ways = "00" + number_word(2, 2)
+        for more in (0, 1, 30):
+            told = number_word(0, 12) + number_word(2, 12) + "000" + number_word(67 + len(ways) + more, 16)
+            bits = sealed_by(sealed_by(told, 8, 29) + ways, 16, 4107)
+            self.assertEqual(block_at(ONE, 2, bits, 0) is None, more > 0)
 
     def test_blocks_of_sounds_of_no_samples(self):
         with self.assertRaises(InvalidPlan) as caught:

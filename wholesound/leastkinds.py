@@ -54,9 +54,7 @@ def least_of(costs):
 
 def least_way(bench, row, bits):
     """The fewest bits of a way that tells a row of so many bits, and the first kind of so few."""
-    best = (2 + bits * len(row), ("plain",))
-    if is_still(row) and 2 + bits <= best[0]:
-        best = (2 + bits, ("still",))
+    best = (2 + bits, ("still",)) if is_still(row) else (2 + bits * len(row), ("plain",))
     lows = lows_of(row, bits)
     for at, guesser in enumerate(bench.all_guessers()):
         for low in lows:

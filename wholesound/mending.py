@@ -60,9 +60,13 @@ def can_fill(check, places):
         if left == 0:
             return ("no", [place for own, place in enumerate(places) if marks >> own & 1])
         basis = with_next(left, marks, basis)
+    return ("yes", [mask_for(at, basis) for at in range(len(places))])
+
+
+def mask_for(at, basis):
+    """The mask of the lost bit with a number."""
     # The marks of a rest tell of which powers it is the sum; its highest one asks for just these.
-    masks = [sum([1 << highest for highest, _, marks in basis if marks >> at & 1]) for at in range(len(places))]
-    return ("yes", masks)
+    return sum([1 << highest for highest, _, marks in basis if marks >> at & 1])
 
 
 def is_fill(check, places, value):
