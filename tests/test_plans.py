@@ -291,6 +291,33 @@ class Orders(unittest.TestCase):
         self.assertGreater(how_many_plans(settings, sound, least), 0)
 
 
+class Sizes(unittest.TestCase):
+
+    def sizes_by_words(self, settings, sound):
+        """How many plans have each size, block by block, by dicts alone."""
+        behind = {sound.many(): {0: 1}}
+        for place in range(sound.many() - 1, -1, -1):
+            behind[place] = {}
+            for length in settings.lengths():
+                if place + length <= sound.many():
+                    for size, _ in blocks_of(settings, sound, place, length):
+                        for more, many in behind[place + length].items():
+                            behind[place][size + more] = behind[place].get(size + more, 0) + many
+        return {size + 27: many for size, many in behind[0].items()}
+
+    def test_many_sizes(self):
+        drawn = Drawn(842)
+        for settings, depth, many in ((Settings([1, 2], [Mixer(1, [])], [steps(1)], 1), 8, 8),
+                                      (Settings([1], [Mixer(2, []), LIFT], [steps(0)], 0), 6, 8),
+                                      (Settings([4], [Mixer(1, [])], [steps(0)], 2), 7, 12)):
+            sound = Sound(depth, [drawn.samples(many, depth) for _ in range(settings.ways())])
+            told = self.sizes_by_words(settings, sound)
+            self.assertEqual(how_many_plans(settings, sound, None), sum(told.values()))
+            for size in list(range(min(told) - 2, min(told) + 60, 7)) + [900, 1200, 1600, 2000]:
+                wanted = sum(count for one, count in told.items() if one <= size)
+                self.assertEqual(how_many_plans(settings, sound, size), wanted)
+
+
 class Bounds(unittest.TestCase):
 
     def test_all_sounds_and_plans_come_to_at_most_one(self):
