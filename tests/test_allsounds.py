@@ -109,6 +109,13 @@ class Numbers(unittest.TestCase):
             size, number = number_of(guesser, depth, width, row)
             self.assertEqual(row_at(guesser, depth, width, many, size, number), row)
 
+    def test_rows_of_200_samples(self):
+        drawn = Drawn(522)
+        for depth, width in ((3, 1), (4, 0), (24, 22)):
+            row = drawn.samples(200, depth)
+            size, number = number_of(steps(1), depth, width, row)
+            self.assertEqual(row_at(steps(1), depth, width, 200, size, number), row)
+
     def test_drawn_rows_stand_in_order(self):
         drawn = Drawn(521)
         for _ in range(40):
