@@ -290,6 +290,21 @@ class Read(unittest.TestCase):
         self.assertEqual(begun(ONE, short)[0], Sound(4, [[3]]))
         self.assertFalse(is_stream(ONE, short))
 
+    def test_blocks_that_begin_too_late_are_not_found(self):
+        sound = Sound(4, [[3, 3]])
+        bits = self.block(sound, "00" + number_word(6, 4))
+        for more in ("0", "1", "01", "0" * 51, "1" * 60, bits[27:]):
+            late = bits[:27] + more + bits[27:]
+            wrong = 27 + 73 + 1 if more == bits[27:] else 78
+            self.assertEqual(wrong_at(ONE, late), wrong)
+            self.assertEqual(begun(ONE, late)[2], wrong - 1 if more == bits[27:] else 27)
+            reader = Reader(ONE)
+            told = [reader.feed(sign) for sign in late]
+            self.assertEqual([one for one in told if one != [[]]], [[[3, 3]]] if more == bits[27:] else [])
+        for more in ("0", "1"):
+            self.assertEqual(wrong_at(ONE, more + bits), 27)
+            self.assertIsNone(begun(ONE, more + bits))
+
     def test_wrong_ways(self):
         sound = Sound(4, [[3, 3]])
         folds = "".join(number_word(6, 4) for _ in range(2))

@@ -35,9 +35,9 @@ def all_pairs(one, other, most):
 def pairs_by_product(one, other, most):
     """The same by a single product of two great numbers, which is quicker for many sizes."""
     low, high = min(list(one.keys())), min(list(other.keys()))
-    left, right = row_from(one, low, most - high), row_from(other, high, most - low)
-    if left == [] or right == []:
+    if low + high > most:
         return {}
+    left, right = row_from(one, low, most - high), row_from(other, high, most - low)
     # No count of pairs is greater than this product, so that no slot runs over into the next one.
     slot = (sum(left) * sum(right)).bit_length()
     counts = unpacked(packed(left, slot) * packed(right, slot), len(left) + len(right) - 1, slot)
