@@ -529,7 +529,8 @@ def mark_calls():
     return calls
 
 
-def all_calls():
+def first_calls():
+    """Those of the modules up to the carriers; `tests.morecalls` has the others."""
     return (sound_calls() + guesser_calls() + healing_calls() + ever_calls() + mixer_calls() + share_calls()
             + stretch_calls() + allsound_calls() + check_calls() + mending_calls() + settings_calls()
             + stream_calls() + plan_calls() + mark_calls())

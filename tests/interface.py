@@ -1,4 +1,4 @@
-"""The interface as far as it is built: modules, names, and the arguments' names."""
+"""The interface: modules, names, and the arguments' names."""
 
 import importlib
 
@@ -101,6 +101,52 @@ MODULES = {
         "most_row": "mark many", "growths": "mark many", "sum_growth": "mark many", "same_growths": "one other",
         "parting_growth": "one other", "carried": "mark rows", "pieces": "mark bits", "uncarried": "mark bits",
     },
+    "damage": {
+        "hurt": "bits hurts", "most_lost": "lengths many", "worst_marks": "lengths many", "lost_paper": "lengths many",
+        "is_lost_paper": "lengths many value",
+    },
+    "finding": {
+        "found": "settings depth mark bits", "kept": "blocks", "most_in_order": "blocks", "how_many_kept": "blocks",
+        "in_all": "blocks", "in_some": "blocks", "kept_paper": "blocks", "is_kept_paper": "blocks value",
+        "most_kept": "blocks", "most_in_any": "blocks", "most_paper": "blocks", "is_most_paper": "blocks value",
+        "patched": "blocks samples chosen many",
+    },
+    "seeking": {
+        "least_step": "starts total many", "table": "starts total many", "how_many_tables": "starts total many",
+        "table_at": "starts total many number", "table_paper": "starts total many",
+        "is_table_paper": "starts total many value",
+    },
+    "edits": {
+        "Edit": "lengths ways pieces", "told": "edit sounds", "identity": "length ways", "then": "first second",
+        "parted": "one other", "recovered": "edit source", "is_recovery": "edit source value",
+    },
+    "diffs": {
+        "fewest": "olds new", "is_fewest": "olds new value", "least_edit": "olds new one each",
+        "is_least_edit": "olds new one each value",
+    },
+    "cuts": {
+        "kept_blocks": "edit cuts", "anew": "edit cuts", "best_cuts": "length edits many",
+        "is_best_cuts": "length edits many value",
+    },
+    "trims": {
+        "ways_of": "sound which", "raised": "sound many", "lowered": "sound many", "stills": "sound loud many",
+        "trimmed": "sound loud many left",
+    },
+    "tapes": {
+        "spliced": "settings streams edit", "least_spliced": "settings streams edit",
+        "is_least_spliced": "settings streams edit value", "set_to": "settings stream at rows", "Tape": "settings stream",
+    },
+    "live": {
+        "Recorder": "settings depth length mark", "resumed": "settings depth length mark bits",
+        "Listener": "settings depth mark",
+    },
+    "texts": {
+        "guesser_text": "guesser", "mixer_text": "mixer", "settings_text": "settings", "prices_text": "prices",
+        "read_guesser": "text", "read_mixer": "text", "read_settings": "text", "read_prices": "text",
+        "is_let": "settings depth samples value", "plan_text": "settings depth samples plan",
+        "read_plan": "settings depth samples text", "short_text": "settings depth samples plan",
+        "short_lines": "settings depth samples plan", "wrong_line": "settings depth samples text",
+    },
 }
 
 CLASSES = {
@@ -112,6 +158,18 @@ CLASSES = {
         "lengths": "", "mixers": "", "guessers": "", "parts": "", "ways": "", "__eq__": "other",
     },
     ("streams", "Reader"): {"feed": "bits", "place": "", "many": "", "wrong": "", "done": ""},
+    ("edits", "Edit"): {
+        "lengths": "", "ways": "", "pieces": "", "length": "", "came_from": "place", "__eq__": "other",
+    },
+    ("tapes", "Tape"): {
+        "do": "edit", "bring": "stream at", "put": "at rows", "bits": "", "sound": "", "log": "", "back": "",
+        "sources": "", "origin": "", "gone": "", "held": "", "straight": "", "copy": "", "__eq__": "other",
+    },
+    ("live", "Recorder"): {
+        "put": "samples", "flush": "", "many": "", "closed": "", "plan": "", "stream": "", "finished": "",
+        "sure_bits": "", "crash": "at", "kept_from": "number", "log": "", "back": "", "copy": "", "__eq__": "other",
+    },
+    ("live", "Listener"): {"hear": "bits", "told": "", "many": "", "waiting": "", "copy": ""},
 }
 
 

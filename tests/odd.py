@@ -1,13 +1,19 @@
 """Values that fit nowhere, and helpers to look at results."""
 
 from wholesound.checks import Check
+from wholesound.edits import Edit
 from wholesound.guessers import Guesser
+from wholesound.live import Listener, Recorder
 from wholesound.mixers import Mixer
 from wholesound.settings import Settings
 from wholesound.sounds import Sound
-from wholesound.streams import Reader
+from wholesound.streams import Reader, write
+from wholesound.tapes import Tape
 
-OWN = (Sound, Guesser, Mixer, Check, Settings, Reader)
+OWN = (Sound, Guesser, Mixer, Check, Settings, Reader, Edit, Tape, Recorder, Listener)
+SMALL = Settings([1], [Mixer(1, [])], [], 0)
+TAPE = Tape(SMALL, write(SMALL, Sound(4, [[1]]), [(1, 0, [("plain",)])]))
+RECORDER, LISTENER = Recorder(SMALL, 4, 2, "100"), Listener(SMALL, 4, "100")
 
 
 def deep(levels):
@@ -20,7 +26,8 @@ def deep(levels):
 def things():
     """Any values that are neither numbers, nor lists but the deep one, nor strings of bits."""
     return [None, True, False, "x", "12", (), (1, 2), {}, {0: 1}, {"a": []}, deep(29),
-            Sound(4, [[1, 2]]), Guesser([2, -1], 0), Mixer(1, []), Check(3, 3), Settings([1], [Mixer(1, [])], [], 0)]
+            Sound(4, [[1, 2]]), Guesser([2, -1], 0), Mixer(1, []), Check(3, 3), Settings([1], [Mixer(1, [])], [], 0),
+            Edit([2], 1, [("keep", 0, 0, 2)]), TAPE, RECORDER, LISTENER]
 
 
 def no_numbers():
@@ -69,6 +76,16 @@ def frozen(value):
         return ("Settings",) + tuple(frozen(part) for part in parts)
     if isinstance(value, Reader):
         return ("Reader", value.place(), value.many(), value.wrong(), value.done())
+    if isinstance(value, Edit):
+        return ("Edit", frozen(value.lengths()), value.ways(), frozen(value.pieces()))
+    if isinstance(value, Tape):
+        parts = [value.bits(), value.log(), value.sources(), value.origin(), value.gone(), value.held()]
+        return ("Tape",) + tuple(frozen(part) for part in parts)
+    if isinstance(value, Recorder):
+        parts = [value.many(), value.closed(), value.plan(), value.stream(), value.finished(), value.log()]
+        return ("Recorder",) + tuple(frozen(part) for part in parts)
+    if isinstance(value, Listener):
+        return ("Listener", frozen(value.told()), value.many(), value.waiting())
     if isinstance(value, (list, tuple)):
         return (type(value).__name__,) + tuple(frozen(item) for item in value)
     if isinstance(value, dict):

@@ -2,7 +2,7 @@
 
 import unittest
 
-EXAMPLES = '''
+EXAMPLES = r'''
 from wholesound.sounds import Sound, bits_number, fold, joined, number_bits, part, unfold, wrap
 [wrap(9, 4), wrap(-8, 4), wrap(24, 4), fold(3), fold(-3), unfold(5), unfold(6)]
 # [-7, -8, -8, 6, 5, -3, 3]
@@ -146,6 +146,100 @@ from wholesound.marks import borders, how_many_free, is_keepable, parting_length
 both = carried("100", ["1010", ""])
 [both, pieces("100", both), pieces("100", both[:10] + "1" + both[11:])]
 # ['100101101100100', [(3, '1010'), (12, '')], [(3, None)]]
+
+from wholesound.carriers import carried, pieces
+from wholesound.damage import hurt, is_lost_paper, most_lost, worst_marks
+both = carried("100", ["1010", ""])
+[hurt("1001", [("turn", 1), ("put", 4, "1"), ("lose", 0)]), pieces("100", hurt(both, [("put", 3, "0")]))]
+# ['1011', [(3, '01010'), (13, '')]]
+[most_lost([5, 1, 4], 1), worst_marks([5, 1, 4], 1), most_lost([5, 1, 4], 2), is_lost_paper([5, 1, 4], 1, (5, [5, 0, 4]))]
+# [6, [1], 10, True]
+
+from wholesound.finding import how_many_kept, in_all, is_kept_paper, is_most_paper, most_in_any, most_in_order, most_kept, patched
+told = [(0, 0, 4), (20, 8, 4), (40, 4, 4), (60, 2, 8)]
+[most_in_order(told), how_many_kept(told), in_all(told), is_kept_paper(told, [4, 8, 8, 8]), most_in_any(told), most_kept(told), is_most_paper(told, [(3, 4), (7, 4), (11, 4)])]
+# [8, 3, [], True, 12, [0, 1, 2], True]
+patched([(0, 2, 2), (9, 6, 1)], [[[5, -1]], [[7]]], [0, 1], 8)
+# [('lost', 0, 2), ('told', 2, [[5, -1]]), ('lost', 4, 2), ('told', 6, [[7]]), ('lost', 7, 1)]
+
+from wholesound.seeking import how_many_tables, is_table_paper, least_step, table
+starts = [0, 3, 4, 9]
+[least_step(starts, 10, 2), table(starts, 10, 2), how_many_tables(starts, 10, 3), is_table_paper(starts, 10, 2, ("runs", [(0, 2), (2, 3)])), is_table_paper(starts, 10, 3, ("one", 2))]
+# [6, [0, 4], 1, True, True]
+
+from wholesound.cuts import anew, best_cuts, kept_blocks
+from wholesound.diffs import fewest, is_fewest, least_edit
+from wholesound.edits import Edit, recovered, told
+from wholesound.sounds import Sound
+edit = Edit([4, 2], 1, [("keep", 0, 0, 2), ("keep", 0, 2, 1), ("given", [[7]]), ("keep", 1, 1, 1)])
+[edit.pieces(), edit.came_from(2), told(edit, [Sound(4, [[1, 2, 3, 4]]), Sound(4, [[5, 6]])]).ways(), recovered(edit, 0)]
+# [[('keep', 0, 0, 3), ('given', [[7]]), ('keep', 1, 1, 1)], (0, 2), [[1, 2, 3, 7, 6]], ('lost', [3])]
+old, new = Sound(3, [[0, 1, 1, 0]]), Sound(3, [[1, 0, 1, 1, 1]])
+[is_fewest([old], new, ("pieces", fewest([old], new)[1], [(0, 3), (2, 3)])), least_edit([old], new, 2, 1)[1]]
+# [True, 6]
+halves = Edit([6], 1, [("keep", 0, 0, 2), ("keep", 0, 3, 3)])
+[kept_blocks(halves, [[0, 3, 6]]), anew(halves, [[0, 3, 6]]), best_cuts(6, [halves], 2)[:2]]
+# [[(2, 0, 1)], 2, ([0, 3, 6], 2)]
+
+from wholesound.edits import Edit
+from wholesound.guessers import steps
+from wholesound.mixers import Mixer
+from wholesound.settings import Settings
+from wholesound.sounds import Sound
+from wholesound.streams import write
+from wholesound.tapes import Tape
+settings = Settings([2, 4], [Mixer(1, [])], [steps(1)], 1)
+tape = Tape(settings, write(settings, Sound(4, [[3, 3, 5, 6]]), [(2, 0, [("still",)]), (2, 0, [("guessed", 0, 0, [1])])]))
+[tape.do(Edit([4], 1, [("keep", 0, 2, 2), ("keep", 0, 0, 2)])), tape.sound().ways(), len(tape.bits()), tape.held()]
+# [True, [[5, 6, 3, 3]], 194, [(0, 0, 1), (2, 0, 0)]]
+[tape.put(0, [[3, 3]]), len(tape.bits()), tape.gone(), tape.held(), tape.origin().pieces()]
+# [True, 173, [[2, 3]], [(2, 0, 0)], [('given', [[3, 3]]), ('keep', 0, 0, 2)]]
+
+from wholesound.carriers import stuffed
+from wholesound.guessers import steps
+from wholesound.live import Listener, Recorder, resumed
+from wholesound.mixers import Mixer
+from wholesound.settings import Settings
+from wholesound.sounds import Sound
+from wholesound.streams import read
+settings = Settings([2, 4], [Mixer(1, [])], [steps(1)], 1)
+recorder = Recorder(settings, 4, 2, "100")
+recorder.put([[3, 3, 5]])
+[recorder.many(), recorder.closed(), recorder.plan(), read(settings, recorder.finished())[0] == Sound(4, [[3, 3, 5]])]
+# [3, 2, [(2, 0, [('still',)])], True]
+whole = recorder.stream()
+[recorder.sure_bits() == whole + stuffed("100", "000000000010" + "0000000000"), recorder.kept_from(1) == len(whole), recorder.kept_from(0)]
+# [True, True, 0]
+again = resumed(settings, 4, 2, "100", recorder.crash(len(whole) - 1))
+[again.closed(), resumed(settings, 4, 2, "100", whole + "0101").closed(), again.put([[3, 3, 5]]), again.stream() == whole, again == recorder]
+# [0, 2, None, True, True]
+recorder.flush()
+[recorder.closed(), recorder.log(), recorder.back(), recorder.closed(), recorder == again]
+# [3, [('put', [[3, 3, 5]]), ('flush',)], ('flush',), 2, True]
+listener = Listener(settings, 4, "100")
+[listener.hear(whole[:-1]), listener.hear(whole[-1]), listener.waiting()]
+# [([], []), ([(3, 0, 2)], [[[3, 3]]]), 0]
+
+from wholesound.guessers import steps
+from wholesound.mixers import Mixer
+from wholesound.settings import Settings
+from wholesound.texts import mixer_text, plan_text, read_plan, settings_text, short_lines, wrong_line
+settings = Settings([4, 6], [Mixer(1, [])], [steps(2)], 1)
+settings_text(settings).split("\n")
+# ['settings', 'lengths 4 6', 'parts 1', 'guesser 0 2 -1', 'mixer 1', '']
+mixer_text(Mixer(2, [("lift", 1, [-1, 0], 0), ("swap", 0, 1)])).split("\n")
+# ['mixer 2', 'lift 1 0 -1 0', 'swap 0 1', '']
+block, other = (4, 0, [("guessed", 0, 1, [2, 3])]), (6, 0, [("plain",)])
+plan_text(settings, 8, 10, [block, other]).split("\n")
+# ['plan 8 10', 'block 4 0', 'guessed 0 1 2 3', 'block 6 0', 'plain', '']
+framed = "plan 8 20\ntimes 2\nblock 4 0\nguessed 0 1 2 3\nblock 6 0\nplain\nend\n"
+[read_plan(settings, 8, 20, framed) == [block, other] * 2, short_lines(settings, 8, 20, [block, other] * 2), short_lines(settings, 8, 12, [block] * 3)]
+# [True, 7, 5]
+head, some = "plan 8 14\n", "block 4 0\nplain\n"
+[wrong_line(settings, 8, 14, head + lines) for lines in ["", "times 2\n", "times 3\n", some * 2 + "block 4 0\n", some + "block 5 0\n"]]
+# [2, 3, 2, 6, 4]
+wrong_line(settings, 8, 12, "plan 8 12\ntimes 2\nblock 6 0\nplain\n")
+# 5
 '''
 
 
@@ -154,16 +248,14 @@ class Examples(unittest.TestCase):
     def test_each_line_tells_its_answer(self):
         seen = 0
         for example in EXAMPLES.strip().split("\n\n"):
-            names, last = {}, ""
-            for line in example.split("\n"):
-                if line.startswith("# "):
-                    self.assertEqual(repr(eval(last, names)), line[2:], last)
+            names, lines = {}, example.split("\n")
+            for line, behind in zip(lines, lines[1:] + [""]):
+                if behind.startswith("# "):
+                    self.assertEqual(repr(eval(line, names)), behind[2:], line)
                     seen += 1
-                elif line.startswith("["):
-                    last = line
-                else:
+                elif not line.startswith("# "):
                     exec(line, names)
-        self.assertEqual(seen, EXAMPLES.count("\n# "))
+        self.assertEqual(seen, 62)
 
 
 if __name__ == "__main__":

@@ -9,7 +9,8 @@ from wholesound import errors
 from wholesound.checks import Check
 from wholesound.errors import SoundError
 
-from tests.calls import Told, all_calls
+from tests.calls import Told
+from tests.morecalls import all_calls
 from tests.odd import bent, frozen, lists_within, no_lists, no_numbers, plain, spoil, things
 from tests.interface import CLASSES, MODULES, named
 
@@ -138,7 +139,8 @@ class Calls(unittest.TestCase):
         names = ["same_guess", "same_rests", "tells", "is_best_weight", "is_told", "is_shortest", "is_next_paper",
                  "is_shortest_whole", "same_mix", "same_within", "commute", "same_prices", "is_cuts_paper", "never_pays",
                  "is_right", "unseen", "all_odd", "is_fill", "also_right", "fits", "is_prices", "is_free", "is_keepable",
-                 "same_marks", "same_growths"]
+                 "same_marks", "same_growths", "is_lost_paper", "is_kept_paper", "is_most_paper", "is_table_paper",
+                 "is_recovery", "is_fewest", "is_least_edit", "is_best_cuts", "is_least_spliced", "is_let"]
         for call in all_calls():
             if call.function.__name__ in names:
                 self.assertIs(type(call.function(**call.good())), bool, call.name())

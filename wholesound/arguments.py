@@ -33,6 +33,22 @@ def is_bits(value):
     return isinstance(value, str) and all([sign in ("0", "1") for sign in value])
 
 
+def is_just(value, wanted):
+    """Whether a value is just what is wanted, kinds included; that is made of None, numbers, strings and rows."""
+    if isinstance(wanted, list):
+        return isinstance(value, list) and are_just(value, wanted)
+    if isinstance(wanted, tuple):
+        return isinstance(value, tuple) and are_just(value, wanted)
+    if isinstance(wanted, str):
+        return isinstance(value, str) and value == wanted
+    return value is None if wanted is None else is_number(value) and value == wanted
+
+
+def are_just(values, wanted):
+    """Whether the items of a row are just those of another one."""
+    return len(values) == len(wanted) and all([is_just(one, other) for one, other in zip(values, wanted)])
+
+
 def check_number(number):
     """Refuse what is no whole number."""
     if not is_number(number):

@@ -1,15 +1,15 @@
 """Blocks of streams: which kinds go for the rows of their ways, how many bits they have, and these bits."""
 
-from wholesound.arguments import is_within
+from wholesound.arguments import check_depth, is_within
 from wholesound.bitrows import bits_of, fold_bits
 from wholesound.checks import Check, word_of
-from wholesound.errors import Unlike
+from wholesound.errors import InvalidDepth, Unlike
 from wholesound.guessers import unwrapped_rests
 from wholesound.mixers import run
 from wholesound.samples import folded, wrapped
 from wholesound.settings import check_settings, wide_of
 from wholesound.shares import cost_at
-from wholesound.sounds import MOST_SAMPLES, check_sound
+from wholesound.sounds import GREATEST_DEPTH, MOST_SAMPLES, check_sound
 
 GREATEST_WIDE = 32
 GREATEST_LOW = 7
@@ -72,6 +72,16 @@ def bench_for(settings, sound):
     bench = Bench(settings, sound.depth())
     if not bench.reached():
         raise Unlike(sound)
+    return bench
+
+
+def bench_at(settings, depth):
+    """The bench for sounds of a depth; refused are what are no settings, and what is no depth that they reach."""
+    check_settings(settings)
+    check_depth(depth, GREATEST_DEPTH)
+    bench = Bench(settings, depth)
+    if not bench.reached():
+        raise InvalidDepth(depth)
     return bench
 
 

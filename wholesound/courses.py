@@ -7,7 +7,7 @@ from wholesound.checks import first_powers, rest_of
 from wholesound.guessers import row_of
 from wholesound.mixers import run
 from wholesound.samples import is_samples, unfolded
-from wholesound.sounds import GREATEST_DEPTH
+from wholesound.sounds import GREATEST_DEPTH, MOST_SAMPLES
 
 HEAD_BITS = 27
 
@@ -53,6 +53,18 @@ def block_read(bench, length, mixer, bits):
         place += many
     ways = unmixed_ways(bench, mixer, rows) if place == end else None
     return None if ways is None else ((length, mixer, kinds), ways)
+
+
+def block_standing(bench, bits, place):
+    """The first sample, the block, its samples and the place behind it, if a block stands at a place; or None."""
+    opening = opening_read(bench, bits[place:place + OPENING_BITS])
+    if opening is None:
+        return None
+    first, length, mixer, size = opening
+    if first + length > MOST_SAMPLES or place + size > len(bits):
+        return None
+    told = block_read(bench, length, mixer, bits[place:place + size])
+    return None if told is None else (first, told[0], told[1], place + size)
 
 
 def unmixed_ways(bench, mixer, rows):

@@ -60,7 +60,11 @@ def sizes_from(blocks):
 
 def least_plan(settings, sound):
     """The least size of all plans that are let, and the first plan of least blocks that has it; or None."""
-    bench = bench_for(settings, sound)
+    return least_plan_by(settings, bench_for(settings, sound), sound)
+
+
+def least_plan_by(settings, bench, sound):
+    """What `least_plan` tells of a sound that is looked at already."""
     blocks = blocks_let(settings, bench, sound)
     left = sizes_from(blocks)
     if left[0] is None:

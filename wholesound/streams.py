@@ -1,11 +1,11 @@
 """Streams of sounds: plans that fit, and the bits that tell a sound with its plan, written, read and mended."""
 
-from wholesound.arguments import check_bits, check_depth, check_within, is_bits
-from wholesound.blocks import Bench, OPENING_BITS, bench_for, bits_of_block, fitting_sizes, mixed_rows
-from wholesound.courses import Course, HEAD_BITS, block_read, course_of, head_bits, opening_read, with_one_turned
-from wholesound.errors import InvalidDepth, InvalidPlan, InvalidStream
+from wholesound.arguments import check_bits, check_within, is_bits
+from wholesound.blocks import bench_at, bench_for, bits_of_block, fitting_sizes, mixed_rows
+from wholesound.courses import Course, HEAD_BITS, block_standing, course_of, head_bits, with_one_turned
+from wholesound.errors import InvalidPlan, InvalidStream
 from wholesound.settings import check_settings
-from wholesound.sounds import GREATEST_DEPTH, MOST_SAMPLES, Sound
+from wholesound.sounds import MOST_SAMPLES, Sound
 
 
 def fits(settings, sound, plan):
@@ -25,6 +25,11 @@ def write(settings, sound, plan):
     """The stream of a sound with a plan."""
     bench = bench_for(settings, sound)
     checked_sizes(bench, sound, plan)
+    return stream_of(bench, sound, plan)
+
+
+def stream_of(bench, sound, plan):
+    """The stream of a sound with a plan that fits it."""
     ways, low = sound.ways(), 0
     parts = [head_bits(sound.depth(), len(ways), sound.many())]
     for block in plan:
@@ -103,21 +108,14 @@ def block_bits(settings, sound, first, block):
 
 def block_at(settings, depth, bits, place):
     """The first sample, the block, its sound and the place behind it, if a block stands at a place; or None."""
-    check_settings(settings)
-    check_depth(depth, GREATEST_DEPTH)
-    bench = Bench(settings, depth)
-    if not bench.reached():
-        raise InvalidDepth(depth)
+    bench = bench_at(settings, depth)
     check_bits(bits)
     check_within(place, 0, len(bits))
-    opening = opening_read(bench, bits[place:place + OPENING_BITS])
-    if opening is None:
+    standing = block_standing(bench, bits, place)
+    if standing is None:
         return None
-    first, length, mixer, size = opening
-    if first + length > MOST_SAMPLES or place + size > len(bits):
-        return None
-    told = block_read(bench, length, mixer, bits[place:place + size])
-    return None if told is None else (first, told[0], Sound(depth, told[1]), place + size)
+    first, block, ways, end = standing
+    return (first, block, Sound(depth, ways), end)
 
 
 class Reader:

@@ -1,0 +1,149 @@
+"""Cuts of sources into blocks: which blocks edits keep whole, and cuts by which the fewest moments are told anew."""
+
+from wholesound.arguments import check_within, is_just, is_numbers
+from wholesound.edits import Edit, check_edit, moments_in
+from wholesound.errors import InvalidItem, InvalidList
+from wholesound.sounds import MOST_SAMPLES
+
+MOST_EDITS = 20
+MOST_BLOCKS = 60
+
+
+def is_cuts(value, length):
+    """Whether a value is cuts of a source of a length: ascending places, its beginning and its end among them."""
+    if not is_numbers(value) or value == [] or value[0] != 0 or value[-1] != length:
+        return False
+    return all([one < other for one, other in zip(value, value[1:])])
+
+
+def check_cuts(edit, cuts):
+    """Refuse what is no edit, what is no list of cuts, one a source, or the first item that is none."""
+    check_edit(edit)
+    if not isinstance(cuts, list) or len(cuts) != len(edit.lengths()):
+        raise InvalidList(cuts)
+    for places, length in zip(cuts, edit.lengths()):
+        if not is_cuts(places, length):
+            raise InvalidItem(places)
+
+
+def firsts_of(places):
+    """For each place of a source the number of the first block that begins at it or behind."""
+    found = []
+    for block, (begin, end) in enumerate(zip([-1] + places[:-1], places)):
+        found += [block] * (end - begin)
+    return found
+
+
+def kept_of(edit, cuts):
+    """What `kept_blocks` tells of an edit and cuts that are looked at already."""
+    firsts, found, at = [firsts_of(places) for places in cuts], [], 0
+    for piece in edit.pieces():
+        if piece[0] == "keep":
+            _, source, first, many = piece
+            places, block = cuts[source], firsts[source][first]
+            while block + 1 < len(places) and places[block + 1] <= first + many:
+                found.append((at + places[block] - first, source, block))
+                block += 1
+        at += moments_in(piece)
+    return found
+
+
+def kept_blocks(edit, cuts):
+    """For each piece and each block that it holds: where it is told, its source and its number."""
+    check_cuts(edit, cuts)
+    return kept_of(edit, cuts)
+
+
+def anew(edit, cuts):
+    """How many kept moments lie in no block that their piece holds."""
+    check_cuts(edit, cuts)
+    return anew_of(edit, cuts)
+
+
+def anew_of(edit, cuts):
+    """What `anew` tells of an edit and cuts that are looked at already."""
+    moments = sum([piece[3] for piece in edit.pieces() if piece[0] == "keep"])
+    held = [cuts[source][block + 1] - cuts[source][block] for _, source, block in kept_of(edit, cuts)]
+    return moments - sum(held)
+
+
+def check_best(length, edits, many):
+    """Refuse what is no length, no list of edits of one source of this length, or no number of blocks."""
+    check_within(length, 0, MOST_SAMPLES)
+    if not isinstance(edits, list) or len(edits) > MOST_EDITS:
+        raise InvalidList(edits)
+    for edit in edits:
+        if not isinstance(edit, Edit) or edit.lengths() != [length]:
+            raise InvalidItem(edit)
+    check_within(many, min([length, 1]), MOST_BLOCKS)
+
+
+def spans_of(edits):
+    """How often each stretch of the source is kept by a piece: a dict by its first place and the one behind it."""
+    found = {}
+    for edit in edits:
+        for piece in edit.pieces():
+            if piece[0] == "keep":
+                span = (piece[2], piece[2] + piece[3])
+                found[span] = found.get(span, 0) + 1
+    return found
+
+
+def block_prices(length, edits):
+    """For each two places: how many moments of the block between them are kept by pieces that don't hold it."""
+    kept, holding = [0] * length, [[0] * (length + 1) for _ in range(length + 1)]
+    for (first, end), many in spans_of(edits).items():
+        holding[first][end] += many
+        for at in range(first, end):
+            kept[at] += many
+    for low in range(length + 1):
+        for high in reversed(range(length + 1)):
+            # Whatever begins ahead or ends behind holds the block, too.
+            ahead = holding[low - 1][high] if low > 0 else 0
+            behind = holding[low][high + 1] if high < length else 0
+            both = holding[low - 1][high + 1] if low > 0 and high < length else 0
+            holding[low][high] += ahead + behind - both
+    sums = [0]
+    for many in kept:
+        sums.append(sums[-1] + many)
+    return [[sums[high] - sums[low] - (high - low) * holding[low][high] for high in range(length + 1)]
+            for low in range(length + 1)]
+
+
+def prices_of(length, edits, many):
+    """By the number of blocks and the place: the least sum of the places ahead in at most so many blocks, or None."""
+    prices = block_prices(length, edits)
+    found = [[0] + [None] * length]
+    for _ in range(many):
+        ahead, row = found[-1], [0]
+        for end in range(1, length + 1):
+            row.append(min([ahead[at] + prices[at][end] for at in range(end) if ahead[at] is not None]))
+        found.append(row)
+    return found
+
+
+def best_cuts(length, edits, many):
+    """Cuts into at most so many blocks by which edits tell the fewest moments anew, how many, and all such numbers."""
+    check_best(length, edits, many)
+    blocks, prices = block_prices(length, edits), prices_of(length, edits, many)
+    cuts, end = [length], length
+    for ahead, row in zip(prices[-2::-1], prices[:0:-1]):
+        if end > 0:
+            ways = [at for at in range(end) if ahead[at] is not None and ahead[at] + blocks[at][end] == row[end]]
+            end = ways[0]
+            cuts.append(end)
+    return (cuts[::-1], prices[-1][length], prices)
+
+
+def is_best_cuts(length, edits, many, value):
+    """Whether a value is such cuts, their number, and all such numbers."""
+    check_best(length, edits, many)
+    if not isinstance(value, tuple) or len(value) != 3:
+        return False
+    cuts, number, prices = value
+    if not is_cuts(cuts, length) or len(cuts) > many + 1:
+        return False
+    wanted = prices_of(length, edits, many)
+    if not is_just(number, wanted[-1][length]) or not is_just(prices, wanted):
+        return False
+    return sum([anew_of(edit, [cuts]) for edit in edits]) == number
