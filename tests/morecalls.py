@@ -12,7 +12,7 @@ from wholesound.streams import block_bits, write
 
 from tests.calls import BITS, COUNT, Call, FAR, GUESSER, MIXER, PAIR, SETTINGS, SIDE, SOUND, Told, depth, first_calls
 from tests.calls import number, pair_plan
-from tests.odd import no_bits, no_lists, no_numbers, no_objects, no_samples, numbers_but
+from tests.odd import no_bits, no_lists, no_numbers, no_objects, numbers_but
 
 EDIT = (e.InvalidEdit, no_objects(Edit))
 CARRIER = (e.InvalidMark, no_bits() + ["", "0", "1" * 17, "10", "110", "11", "101", "1011011", "0" * 16])

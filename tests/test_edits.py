@@ -4,7 +4,7 @@ import itertools
 import unittest
 
 from wholesound.edits import Edit, identity, is_recovery, parted, recovered, then, told
-from wholesound.errors import InvalidDepth, InvalidEdit, InvalidItem, InvalidList, InvalidNumber, InvalidPiece, Unlike
+from wholesound.errors import InvalidDepth, InvalidItem, InvalidList, InvalidNumber, InvalidPiece, Unlike
 from wholesound.sounds import Sound
 
 from tests.drawn import Drawn

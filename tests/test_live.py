@@ -73,6 +73,12 @@ def drawn_recorder(drawn, deeds=6, depth=4, settings=None):
     return recorder
 
 
+def smooth(drawn, many, depth):
+    """Samples that guessers tell in fewer bits than they have themselves."""
+    low, step = drawn.below(2 ** (depth - 2)), drawn.below(4)
+    return [low + step * at + drawn.below(2) for at in range(many)]
+
+
 class Recorders(unittest.TestCase):
 
     def agree(self, recorder, slow):
@@ -99,6 +105,28 @@ class Recorders(unittest.TestCase):
                     self.assertIsNone(recorder.put(samples))
                     slow.put(samples)
                 self.agree(recorder, slow)
+
+    def test_blocks_that_are_guessed(self):
+        drawn = Drawn(1101)
+        for settings in (ONE, TWO):
+            recorder, slow = Recorder(settings, 14, 8, "1000"), Slow(settings, 14, 8, "1000")
+            for many in (5, 8, 20):
+                samples = [smooth(drawn, many, 14) for _ in range(settings.ways())]
+                recorder.put(samples)
+                slow.put(samples)
+                recorder.flush()
+                slow.flush()
+            self.agree(recorder, slow)
+            kinds = [kind for block in recorder.plan() for kind in block[2] if kind[0] == "guessed"]
+            self.assertGreater(len(kinds), 3)
+            before = frozen(recorder)
+            for value in (recorder.plan(), recorder.copy().plan()):
+                spoil(value)
+            self.assertEqual(frozen(recorder), before)
+            again = resumed(settings, 14, 8, "1000", recorder.stream() + "01")
+            self.assertEqual(again, recorder)
+            self.assertEqual(Listener(settings, 14, "1000").hear(recorder.stream())[0],
+                             found(settings, 14, "1000", recorder.stream())[0])
 
     def test_one_by_one_none_and_many_at_once(self):
         row = [3, 3, 5, -8, 0, 0, 7]
@@ -334,6 +362,11 @@ class Crashes(unittest.TestCase):
         self.assertEqual(resumed(ONE, 4, 3, "100", self.stream_of((0, [3, 3], None), (2, [5, 5, 5], None))).closed(), 5)
         self.assertEqual(resumed(ONE, 5, 2, "100", self.stream_of((0, [3, 4], None))).closed(), 0)
 
+    def test_nothing_is_resumed_behind_what_is_no_block(self):
+        row = block_bits(ONE, Sound(4, [[3, 3]]), 0, (2, 0, [("still",)]))
+        for rows, closed in ((["0101", row], 0), (["", row], 0), ([row[:-1], row], 0), ([row, "1", row], 2), ([row], 2)):
+            self.assertEqual(resumed(ONE, 4, 2, "100", carried("100", rows)).closed(), closed)
+
     def test_any_turned_bit(self):
         recorder = Recorder(ONE, 4, 2, "1000")
         recorder.put([[3, 3, 5, 7, 1, 1]])
@@ -465,6 +498,14 @@ class Listeners(unittest.TestCase):
         recorder.flush()
         bits = "01" + recorder.stream() + "10"
         self.look(TWO, 4, "100", bits, [piece for bit in bits for piece in (bit, "")])
+
+    def test_what_stands_ahead_of_the_first_mark_is_no_piece(self):
+        recorder = Recorder(ONE, 4, 2, "100")
+        recorder.put([[3, 3, 5, 7]])
+        stream = recorder.stream()
+        for bits in (stream[3:], "0" + stream[3:], stream[:3] + stream):
+            self.look(ONE, 4, "100", bits, list(bits))
+        self.assertEqual(len(found(ONE, 4, "100", stream[3:])[0]), 1)
 
     def test_each_block_comes_with_the_last_bit_of_the_mark_behind_it(self):
         recorder = Recorder(ONE, 4, 2, "1000")

@@ -238,6 +238,27 @@ class LeastSpliced(unittest.TestCase):
                 self.assertIs(is_least_spliced(settings, [bits], edit, (other, prices)), True)
         self.assertEqual(prices[-1], price)
 
+    def test_blocks_that_are_neither_let_nor_kept(self):
+        # Rows of so few bits that the least stream has just as many with a block that must not stand there.
+        settings = Settings([1], [Mixer(1, [])], [steps(1)], 0)
+        two, loud = Sound(16, [[160, 160]]), Sound(16, [[85, 85]])
+        odd = write(settings, two, [(2, 0, [("guessed", 0, 0, [2])])])
+        let = write(settings, two, [(1, 0, [("plain",)])] * 2)
+        self.assertEqual(len(odd), len(let))
+        prices = least_spliced(settings, [let], identity(2, 1))[1]
+        for streams, value in (([let], False), ([odd], True)):
+            self.assertEqual(least_spliced(settings, streams, identity(2, 1))[1][-1], len(odd))
+            self.assertIs(is_least_spliced(settings, streams, identity(2, 1), (odd, prices)), value)
+        moved = Edit([2], 1, [("given", [[160]]), ("keep", 0, 0, 2), ("given", [[160]])])
+        plain, guessed = [write(settings, loud, [(2, 0, [kind])]) for kind in (("plain",), ("guessed", 0, 0, [5]))]
+        self.assertEqual(len(plain), len(guessed))
+        for bits, other in ((plain, guessed), (guessed, plain)):
+            prices = least_spliced(settings, [bits], identity(2, 1))[1]
+            self.assertIs(is_least_spliced(settings, [bits], identity(2, 1), (bits, prices)), True)
+            self.assertIs(is_least_spliced(settings, [bits], identity(2, 1), (other, prices)), False)
+        value = least_spliced(settings, [plain], moved)
+        self.assertIs(is_least_spliced(settings, [plain], moved, value), True)
+
     def test_bent(self):
         bits = write(EVEN, Sound(4, [[3, 3, 5, 6]]), [(2, 0, [("still",)]), (2, 0, [("plain",)])])
         edit = Edit([4], 1, [("keep", 0, 2, 2), ("keep", 0, 0, 2)])

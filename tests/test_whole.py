@@ -5,7 +5,7 @@ import unittest
 from wholesound.carriers import carried, uncarried
 from wholesound.damage import hurt, most_lost
 from wholesound.diffs import fewest, least_edit
-from wholesound.edits import Edit, recovered, then, told
+from wholesound.edits import recovered, then, told
 from wholesound.finding import found, most_in_order, patched, most_kept
 from wholesound.guessers import Guesser, steps
 from wholesound.live import Listener, Recorder, resumed

@@ -95,6 +95,12 @@ def greatest_width(bits, low):
     return min([GREATEST_WIDTH, bits - low])
 
 
+def copied_block(block):
+    """The block, with lists of its own."""
+    length, mixer, kinds = block
+    return (length, mixer, [kind if len(kind) == 1 else kind[:3] + (list(kind[3]),) for kind in kinds])
+
+
 def is_block(bench, value):
     """Whether a value is a block, whether it goes anywhere or not."""
     if not isinstance(value, tuple) or len(value) != 3:

@@ -1,7 +1,7 @@
 """Diffs: a sound told of older ones by the fewest pieces, or by the least price, with what proves that."""
 
-from wholesound.arguments import check_within, is_just, is_numbers, is_within
-from wholesound.edits import Edit, MOST_SOURCES, edit_of, is_rows, moments_in, moments_told
+from wholesound.arguments import check_within, is_just, is_numbers
+from wholesound.edits import Edit, MOST_SOURCES, edit_of, moments_in, moments_told
 from wholesound.errors import InvalidItem, InvalidList, Unlike
 from wholesound.sounds import Sound, check_sound
 

@@ -180,7 +180,6 @@ def rows_told(piece, sources):
 def identity(length, ways):
     """The edit that keeps one whole source."""
     check_within(length, 0, MOST_SAMPLES)
-    check_within(ways, 1, MOST_WAYS)
     return Edit([length], ways, whole_pieces(0, length))
 
 

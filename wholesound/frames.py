@@ -1,7 +1,7 @@
 """Texts of plans: read line by line with frames, told how far they can be gone on with, and written in few lines."""
 
 from wholesound.arguments import is_within
-from wholesound.blocks import is_kind
+from wholesound.blocks import copied_block, is_kind
 from wholesound.lines import line_of, numbers_behind
 from wholesound.plans import reached_places
 
@@ -89,8 +89,7 @@ class PlanReader:
 
     def plan(self):
         """The plan that the lines tell, each block a new one."""
-        return [(length, mixer, [kind if len(kind) == 1 else kind[:3] + (list(kind[3]),) for kind in kinds])
-                for length, mixer, kinds in self._frames[0].blocks()]
+        return [copied_block(block) for block in self._frames[0].blocks()]
 
     def _begin_block(self, numbers):
         """Begin a block of a length and a mixer: whether there may be one."""

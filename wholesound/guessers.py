@@ -3,7 +3,7 @@
 from math import comb
 
 from wholesound.arguments import check_depth, check_within, is_numbers, is_within
-from wholesound.errors import InvalidGuesser, InvalidItem, InvalidList, InvalidNumber, InvalidRow
+from wholesound.errors import InvalidGuesser, InvalidItem, InvalidList, InvalidRow
 from wholesound.samples import depth_of, greatest_sample, is_samples, least_sample, wrapped
 
 MOST_WEIGHTS = 8

@@ -2,7 +2,7 @@
 
 from wholesound.arguments import check_bits, check_within
 from wholesound.bitrows import bits_of
-from wholesound.blocks import bench_at, bits_of_block
+from wholesound.blocks import bench_at, bits_of_block, copied_block
 from wholesound.carriers import bare_row, check_carrier, pieces_of, stuffed_row
 from wholesound.errors import InvalidList, NothingToUndo
 from wholesound.finding import block_alone
@@ -172,11 +172,6 @@ def is_put(value, depth, ways, most):
     if not all([is_samples(way, depth) for way in value]):
         return False
     return len(value[0]) <= most and all([len(way) == len(value[0]) for way in value])
-
-
-def copied_block(block):
-    """The block, with lists of its own."""
-    return (block[0], block[1], [kind if len(kind) == 1 else kind[:3] + (list(kind[3]),) for kind in block[2]])
 
 
 def copied_deed(deed):

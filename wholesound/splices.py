@@ -48,7 +48,7 @@ class Source:
 
 
 def source_of(settings, stream):
-    """A stream with what it tells; refused is what is none."""
+    """A stream with what it tells; refused are what are no settings, and what is no stream of them."""
     course = whole_course(settings, stream)
     return Source(stream, course.bench(), sound_of(course), course.plan())
 

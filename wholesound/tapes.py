@@ -67,7 +67,6 @@ def is_least_spliced(settings, streams, edit, value):
 
 def set_to(settings, stream, at, rows):
     """The stream with given samples in the place of as many moments from a place on, or None."""
-    check_settings(settings)
     source = source_of(settings, stream)
     splice = splice_of(settings, [source], edit_with(source, settings.ways(), at, rows))
     return None if splice is None else splice.bits()
@@ -92,7 +91,6 @@ class Tape:
     """A stream and what is done with it, deed by deed."""
 
     def __init__(self, settings, stream):
-        check_settings(settings)
         first = source_of(settings, stream)
         whole = identity(first.many(), settings.ways())
         self._settings = settings
