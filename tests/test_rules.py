@@ -7,7 +7,7 @@ from fractions import Fraction
 from math import gcd
 
 from wholesound.ever import (
-    how_many_rules, is_next_paper, is_shortest, is_shortest_whole, is_told, next_paper, next_samples, shortest,
+    how_many_rules, is_next_paper, is_shortest, is_shortest_whole, next_paper, next_samples, shortest,
     shortest_whole)
 from wholesound.guessers import Guesser
 

@@ -89,23 +89,37 @@ def spans_of(edits):
     return found
 
 
-def block_prices(length, edits):
-    """For each two places: how many moments of the block between them are kept by pieces that don't hold it."""
-    kept, holding = [0] * length, [[0] * (length + 1) for _ in range(length + 1)]
-    for (first, end), many in spans_of(edits).items():
+def holding_of(length, spans):
+    """For each two places how many of the stretches that are kept hold all that lies between them."""
+    holding = [[0] * (length + 1) for _ in range(length + 1)]
+    for (first, end), many in spans.items():
         holding[first][end] += many
-        for at in range(first, end):
-            kept[at] += many
     for low in range(length + 1):
         for high in reversed(range(length + 1)):
-            # Whatever begins ahead or ends behind holds the block, too.
+            # Whatever begins ahead or ends behind holds it, too.
             ahead = holding[low - 1][high] if low > 0 else 0
             behind = holding[low][high + 1] if high < length else 0
             both = holding[low - 1][high + 1] if low > 0 and high < length else 0
             holding[low][high] += ahead + behind - both
+    return holding
+
+
+def kept_ahead(length, spans):
+    """For each place how many moments ahead of it are kept, each as often as it is."""
+    kept = [0] * length
+    for (first, end), many in spans.items():
+        for at in range(first, end):
+            kept[at] += many
     sums = [0]
     for many in kept:
         sums.append(sums[-1] + many)
+    return sums
+
+
+def block_prices(length, edits):
+    """For each two places: how many moments of the block between them are kept by pieces that don't hold it."""
+    spans = spans_of(edits)
+    sums, holding = kept_ahead(length, spans), holding_of(length, spans)
     return [[sums[high] - sums[low] - (high - low) * holding[low][high] for high in range(length + 1)]
             for low in range(length + 1)]
 

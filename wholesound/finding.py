@@ -259,7 +259,7 @@ def patched(blocks, samples, chosen, many):
         raise InvalidList(chosen)
     check_within(many, max([end_of(blocks[at]) for at in chosen], default=0), 2 * MOST_SAMPLES)
     told, place = [], 0
-    for first, at in sorted([(blocks[at][1], at) for at in chosen]):
+    for first, at in sorted([(blocks[position][1], position) for position in chosen]):
         if first > place:
             told.append(("lost", place, first - place))
         told.append(("told", first, [list(way) for way in samples[at]]))

@@ -182,9 +182,9 @@ class Tape:
     def gone(self):
         """For each source the places that stand nowhere now."""
         standing = [[False] * source.many() for source in self._sources]
-        for source, place in moments_told(self.origin().pieces()):
+        for source, at in moments_told(self.origin().pieces()):
             if source is not None:
-                standing[source][place] = True
+                standing[source][at] = True
         return [[place for place, is_there in enumerate(row) if not is_there] for row in standing]
 
     def held(self):
