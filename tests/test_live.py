@@ -364,7 +364,9 @@ class Crashes(unittest.TestCase):
 
     def test_nothing_is_resumed_behind_what_is_no_block(self):
         row = block_bits(ONE, Sound(4, [[3, 3]]), 0, (2, 0, [("still",)]))
-        for rows, closed in ((["0101", row], 0), (["", row], 0), ([row[:-1], row], 0), ([row, "1", row], 2), ([row], 2)):
+        dear = block_bits(ONE, Sound(4, [[3, 3]]), 0, (2, 0, [("plain",)]))
+        for rows, closed in ((["0101", row], 0), (["", row], 0), ([row[:-1], row], 0), ([row, "1", row], 2), ([row], 2),
+                             ([dear, row], 0), ([row, row], 2)):
             self.assertEqual(resumed(ONE, 4, 2, "100", carried("100", rows)).closed(), closed)
 
     def test_any_turned_bit(self):
