@@ -177,6 +177,14 @@ class Best(unittest.TestCase):
 
 class Limits(unittest.TestCase):
 
+    def test_the_greatest_length(self):
+        edit = Edit([4095], 1, [("keep", 0, 7, 300), ("keep", 0, 2000, 9)])
+        for edits, cuts in (([], [0, 4095]), ([edit], [0, 7, 307, 2000, 2009, 4095])):
+            value = best_cuts(4095, edits, 60)
+            self.assertEqual(value[:2], (cuts, 0))
+            self.assertTrue(is_best_cuts(4095, edits, 60, value))
+        self.assertEqual(best_cuts(4095, [edit], 1)[1], 309)
+
     def test_lengths_of_60_and_20_edits(self):
         drawn = Drawn(10500)
         edits = []

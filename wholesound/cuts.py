@@ -89,22 +89,7 @@ def spans_of(edits):
     return found
 
 
-def holding_of(length, spans):
-    """For each two places how many of the stretches that are kept hold all that lies between them."""
-    holding = [[0] * (length + 1) for _ in range(length + 1)]
-    for (first, end), many in spans.items():
-        holding[first][end] += many
-    for low in range(length + 1):
-        for high in reversed(range(length + 1)):
-            # Whatever begins ahead or ends behind holds it, too.
-            ahead = holding[low - 1][high] if low > 0 else 0
-            behind = holding[low][high + 1] if high < length else 0
-            both = holding[low - 1][high + 1] if low > 0 and high < length else 0
-            holding[low][high] += ahead + behind - both
-    return holding
-
-
-def kept_ahead(length, spans):
+def kept_up_to(length, spans):
     """For each place how many moments ahead of it are kept, each as often as it is."""
     kept = [0] * length
     for (first, end), many in spans.items():
@@ -116,22 +101,42 @@ def kept_ahead(length, spans):
     return sums
 
 
+def holding_from(length, spans, low):
+    """For each place how many of the stretches that are kept hold all from `low` on up to it."""
+    found = [0] * (length + 1)
+    for (first, end), many in spans.items():
+        if first <= low:
+            found[end] += many
+    for high in reversed(range(length)):
+        # Whatever ends behind a place holds what is ahead of it, too.
+        found[high] += found[high + 1]
+    return found
+
+
 def block_prices(length, edits):
-    """For each two places: how many moments of the block between them are kept by pieces that don't hold it."""
+    """For some places, and each one behind: how many moments of the block between them pieces keep that don't hold it.
+
+    A cut between two ends of pieces can be moved to one of them, or to the next cut, for no more: so these are the
+    beginning and the ends of pieces.
+    """
     spans = spans_of(edits)
-    sums, holding = kept_ahead(length, spans), holding_of(length, spans)
-    return [[sums[high] - sums[low] - (high - low) * holding[low][high] for high in range(length + 1)]
-            for low in range(length + 1)]
+    sums, begins = kept_up_to(length, spans), sorted([0] + [end for span in spans for end in span])
+    found = {}
+    for low in begins:
+        if low < length and low not in found:
+            holding = holding_from(length, spans, low)
+            found[low] = [sums[high] - sums[low] - (high - low) * holding[high] for high in range(length + 1)]
+    return found
 
 
-def prices_of(length, edits, many):
+def prices_of(length, blocks, many):
     """By the number of blocks and the place: the least sum of the places ahead in at most so many blocks, or None."""
-    prices = block_prices(length, edits)
     found = [[0] + [None] * length]
     for _ in range(many):
         ahead, row = found[-1], [0]
         for end in range(1, length + 1):
-            row.append(min([ahead[at] + prices[at][end] for at in range(end) if ahead[at] is not None]))
+            row.append(min([ahead[low] + prices[end] for low, prices in blocks.items()
+                            if low < end and ahead[low] is not None]))
         found.append(row)
     return found
 
@@ -139,12 +144,14 @@ def prices_of(length, edits, many):
 def best_cuts(length, edits, many):
     """Cuts into at most so many blocks by which edits tell the fewest moments anew, how many, and all such numbers."""
     check_best(length, edits, many)
-    blocks, prices = block_prices(length, edits), prices_of(length, edits, many)
+    blocks = block_prices(length, edits)
+    prices = prices_of(length, blocks, many)
     cuts, end = [length], length
     for ahead, row in zip(prices[-2::-1], prices[:0:-1]):
         if end > 0:
-            ways = [at for at in range(end) if ahead[at] is not None and ahead[at] + blocks[at][end] == row[end]]
-            end = ways[0]
+            lows = [low for low in blocks
+                    if low < end and ahead[low] is not None and ahead[low] + blocks[low][end] == row[end]]
+            end = lows[0]
             cuts.append(end)
     return (cuts[::-1], prices[-1][length], prices)
 
@@ -157,7 +164,7 @@ def is_best_cuts(length, edits, many, value):
     cuts, number, prices = value
     if not is_cuts(cuts, length) or len(cuts) > many + 1:
         return False
-    wanted = prices_of(length, edits, many)
+    wanted = prices_of(length, block_prices(length, edits), many)
     if not is_just(number, wanted[-1][length]) or not is_just(prices, wanted):
         return False
     return sum([anew_of(edit, [cuts]) for edit in edits]) == number
